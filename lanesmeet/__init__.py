@@ -1,0 +1,1 @@
+"""Lanesmeet: what a kernel of many lanes does for all sizes and all orders."""
