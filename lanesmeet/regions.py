@@ -91,7 +91,7 @@ class Region:
         names = tiles_names(sizes)
         self.lots = {rests: lot_of(floor, told[rests], names) if rests in told else [] for rests in all_rests(sizes)}
 
-    def systems(self, rests):
+    def systems_for(self, rests):
         """The rows of each of the zones for these rests."""
         names = tiles_names(self.sizes)
         return [named_rows(zone, names) for zone in self.lots[rests]]
@@ -151,7 +151,7 @@ class Region:
         """The systems of the tiles that belong to the region with these rests."""
         if has_bool(rests) or not isinstance(rests, tuple) or rests not in all_rests(self.sizes):
             raise BadRests("this is no tuple of a rest for each size")
-        return self.systems(rests)
+        return self.systems_for(rests)
 
     def least(self):
         """The sizes of the region with the least sum of tiles, then the least by tiles, then by rests; or None."""
@@ -173,7 +173,7 @@ class Region:
 
     def claims(self, other, rests):
         """The claims that the other region does not have what this one has with these rests."""
-        return [(one_of(self.systems(rests)), True), (one_of(other.systems(rests)), False)]
+        return [(one_of(self.systems_for(rests)), True), (one_of(other.systems_for(rests)), False)]
 
     def shown(self, other):
         """For all tuples of rests a tree that shows that this region is within the other one; None if it is not."""

@@ -154,7 +154,7 @@ class Source:
         """Goes on to the next row."""
         self.at = self.at + 1
 
-    def head(self, words):
+    def begun(self, words):
         """The reader of the next row, behind its first word, if that is one of words; otherwise None."""
         reader = self.next_reader()
         if self.blanks() > 0:
@@ -167,7 +167,7 @@ class Source:
 
     def must(self, word):
         """The reader of the next row, behind its first word, which must be this one."""
-        reader = self.head((word,))
+        reader = self.begun((word,))
         if reader is None:
             raise BadText(self.next_row())
         return reader
@@ -199,18 +199,18 @@ class Source:
     def read_sizes(self):
         """Reads the rows of the sizes."""
         found = []
-        reader = self.head(("size",))
+        reader = self.begun(("size",))
         while reader is not None:
             name = reader.read_name()
             reader.eat("rests")
             found.append((name, reader.read_all_numbers()))
-            reader = self.head(("size",))
+            reader = self.begun(("size",))
         return tuple(found)
 
     def read_promises(self):
         """Reads the rows of the promises."""
         found = []
-        reader = self.head(("promise",))
+        reader = self.begun(("promise",))
         while reader is not None:
             a = self.read_promised(reader)
             reader.eat("-")
@@ -218,7 +218,7 @@ class Source:
             reader.eat("<=")
             found.append((a, b, reader.read_number()))
             reader.finish()
-            reader = self.head(("promise",))
+            reader = self.begun(("promise",))
         return tuple(found)
 
     def read_promised(self, reader):
@@ -231,12 +231,12 @@ class Source:
     def read_arrays(self):
         """Reads the rows of the arrays."""
         found = []
-        reader = self.head(("far", "shared"))
+        reader = self.begun(("far", "shared"))
         while reader is not None:
             sort = reader.pieces[0]
             name = reader.read_name()
             found.append((sort, name, reader.read_all_names() if sort == "far" else reader.read_all_numbers()))
-            reader = self.head(("far", "shared"))
+            reader = self.begun(("far", "shared"))
         return tuple(found)
 
     def read_block(self, blanks):

@@ -1,0 +1,144 @@
+"""Pair cases: two instances told for all sizes, and the saying that they are side by side."""
+
+from lanesmeet.cases import DEEDS, is_point_of, long_loops, marked_rows, point_cases, points_of, short_loops
+from lanesmeet.plain import is_number_tuple, is_tuple_of
+from lanesmeet.wording import said
+
+HOWS = ("same", "less 0", "more 0", "less 1", "more 1")
+ALWAYS = ("and", ())
+NEVER = ("or", ())
+
+
+class Stand:
+    """A step told for all sizes: its point, the numbers of its short loops by names, and the names of long turns."""
+
+    def __init__(self, kernel, point, choice, head, tail):
+        self.point = point
+        self.shorts = dict(zip(short_loops(kernel, point), choice[1]))
+        self.head = head
+        self.tail = tail
+
+    def turn_name(self, loop):
+        """The name of the turn of a long loop."""
+        return self.head + loop + self.tail
+
+
+def first_stand(kernel, point, choice):
+    """The step of the first one of two instances."""
+    return Stand(kernel, point, choice, "turn ", "")
+
+
+def second_stand(kernel, point, choice):
+    """The step of the second one of two instances."""
+    return Stand(kernel, point, choice, "turn ", " b")
+
+
+def meeting_stand(kernel, point, choice):
+    """The step of a meeting."""
+    return Stand(kernel, point, choice, "Turn ", "")
+
+
+def is_pair_case(kernel, thing):
+    """Whether thing is a pair case."""
+    if not is_tuple_of(thing, 3) or not isinstance(thing[2], str) or thing[2] not in HOWS:
+        return False
+    for pair in thing[:2]:
+        if not is_number_tuple(pair, 2) or not is_point_of(kernel, pair[0], DEEDS) or pair[1] < 0:
+            return False
+    (one, number), (other, index), how = thing
+    if number >= len(point_cases(kernel, one)) or index >= len(point_cases(kernel, other)):
+        return False
+    first = point_cases(kernel, one)[number][0]
+    second = point_cases(kernel, other)[index][0]
+    return first[2] == second[2] and (how != "same" or first[0] != second[0])
+
+
+def equal_rows(axis):
+    """The rows that say that both blocks are equal on an axis."""
+    name = f"block {axis}"
+    return [(name, name + " b", 0), (name + " b", name, 0)]
+
+
+def how_rows(how):
+    """The rows of how."""
+    if how == "same":
+        return equal_rows(0) + equal_rows(1)
+    word, axis = how.split(" ")
+    name = "block " + axis
+    row = (name, name + " b", -1) if word == "less" else (name + " b", name, -1)
+    return [row] if axis == "0" else equal_rows(0) + [row]
+
+
+def base_rows(kernel, case):
+    """The rows of the base of a pair case."""
+    (one, number), (other, index), how = case
+    first = point_cases(kernel, one)[number][1]
+    second = point_cases(kernel, other)[index][1]
+    # Those of sizes and promises are in the first system already.
+    spare = len(kernel.sizes) + len(kernel.promises)
+    return first + marked_rows(second[spare:]) + how_rows(how)
+
+
+def ahead(kernel, one, other):
+    """The saying that the one step is ahead of the other one."""
+    found = ALWAYS if one.point < other.point else NEVER
+    common = [loop for loop in kernel.loops[one.point] if loop in kernel.loops[other.point]]
+    for sort, name, _ in reversed(common):
+        if sort == "long":
+            found = ahead_by_turn(one.turn_name(name), other.turn_name(name), found)
+        elif one.shorts[name] != other.shorts[name]:
+            found = ALWAYS if one.shorts[name] < other.shorts[name] else NEVER
+    return found
+
+
+def ahead_by_turn(x, y, later):
+    """The saying that a turn x is less than y, or equal and then later holds."""
+    equal = ("and", (("row", x, y, 0), ("row", y, x, 0), later))
+    return "or", (("row", x, y, -1), equal)
+
+
+def bound_turn(name):
+    """The name for the turn of a meeting's loop; other names stay."""
+    if name is not None and name.startswith("turn "):
+        return "Turn " + name[len("turn "):]
+    return name
+
+
+def meeting_saying(kernel, meeting, system, one, other):
+    """The saying that a meeting of a case stands between two steps."""
+    spare = len(kernel.sizes) + len(kernel.promises) + 4
+    rows = [said((bound_turn(a), bound_turn(b), c)) for a, b, c in system[spare:]]
+    before = ("and", (ahead(kernel, one, meeting), ahead(kernel, meeting, other)))
+    behind = ("and", (ahead(kernel, other, meeting), ahead(kernel, meeting, one)))
+    inner = ("and", tuple(rows + [("or", (before, behind))]))
+    names = [meeting.turn_name(loop) for loop in long_loops(kernel, meeting.point)]
+    return ("some", tuple(names), inner) if names else inner
+
+
+def meeting_parts(kernel, one, first, other, second):
+    """The sayings that no meeting stands between two instances of one block, told by points and choices."""
+    stand = first_stand(kernel, one, first)
+    mate = second_stand(kernel, other, second)
+    parts = []
+    for point in points_of(kernel, ("meet",)):
+        for choice, system in point_cases(kernel, point):
+            if choice[0] == first[0] and choice[2] == first[2]:
+                meeting = meeting_stand(kernel, point, choice)
+                parts.append(("not", meeting_saying(kernel, meeting, system, stand, mate)))
+    return parts
+
+
+def parts_between(kernel, case):
+    """The sayings that no meeting stands between the two instances of a pair case; [] for unlike blocks."""
+    (one, number), (other, index), how = case
+    if how != "same":
+        return []
+    first = point_cases(kernel, one)[number][0]
+    second = point_cases(kernel, other)[index][0]
+    return meeting_parts(kernel, one, first, other, second)
+
+
+def beside_saying(kernel, case):
+    """The saying of a pair case that both instances are there and side by side."""
+    rows = [said(row) for row in base_rows(kernel, case)]
+    return "and", tuple(rows + parts_between(kernel, case))
