@@ -32,6 +32,17 @@ def points_of(kernel, words):
     return [point for point, statement in enumerate(kernel.statements) if statement[0] in words]
 
 
+def busy_points(kernel):
+    """Whether each statement is, or has in it, a take, put, add or meeting. The list is kept with the kernel."""
+    if "busy" not in kernel.held:
+        busy = [statement[0] in STANDS for statement in kernel.statements]
+        for point in points_of(kernel, STANDS):
+            for outer, _ in kernel.arounds[point]:
+                busy[outer] = True
+        kernel.held["busy"] = busy
+    return kernel.held["busy"]
+
+
 def is_point_of(kernel, thing, words):
     """Whether thing is the point of a statement with one of the words."""
     return is_between(thing, 0, len(kernel.statements) - 1) and kernel.statements[thing][0] in words

@@ -1,7 +1,7 @@
 """Sayings as zones: the points of a zone at which a saying holds."""
 
 from lanesmeet.wording import bound_in, free_in, with_terms
-from lanesmeet.zones import bare_rows, loosed, outside, pieces_outside, thinned, tightened, whole
+from lanesmeet.zones import bare_rows, loosed, outside, thinned, tightened, whole
 
 
 def rows_first(parts):

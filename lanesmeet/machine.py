@@ -4,7 +4,7 @@ from lanesmeet.cases import DEEDS, STANDS, block_counts, cell_at, check_at, chec
 from lanesmeet.cases import points_of
 from lanesmeet.errors import BadBlock, BadCell, BadLane, BadOrder, NotAble
 from lanesmeet.meaning import lane_list
-from lanesmeet.plain import is_between, is_listing, is_number_tuple, is_tuple_of
+from lanesmeet.plain import is_listing, is_number_tuple, is_tuple_of
 
 
 def all_lists(kernel, sizes):

@@ -1,8 +1,8 @@
 """What kernels mean: instances at given sizes, and cases for all sizes."""
 
-from lanesmeet.cases import DEEDS, STANDS, cell_at, check_at, check_many, is_block, is_choice, is_instance, is_lane
-from lanesmeet.cases import is_point_of, marked_rows, meeting_rows, point_cases, reached, rests_at, stands_there
-from lanesmeet.cases import tiles_at
+from lanesmeet.cases import DEEDS, STANDS, busy_points, cell_at, check_at, check_many, is_block, is_choice
+from lanesmeet.cases import is_instance, is_lane, is_point_of, marked_rows, meeting_rows, point_cases, reached
+from lanesmeet.cases import rests_at, stands_there, tiles_at
 from lanesmeet.differences import check_system
 from lanesmeet.errors import BadBlock, BadChoice, BadInstance, BadLane, BadPoint
 from lanesmeet.guards import Ground, Sight, form_number, guard_holds
@@ -20,6 +20,7 @@ class Walk:
         self.turns = {}
         self.sight = Sight(kernel.width, lane, self.turns, rests_at(sizes))
         self.ground = Ground(block, self.turns, tiles_at(sizes))
+        self.busy = busy_points(kernel)
         self.found = []
 
     def go_through(self, points, path):
@@ -34,10 +35,10 @@ class Walk:
             elif word == "if":
                 holds = guard_holds(statement[1], self.sight, self.ground)
                 self.go_through(inner[0] if holds else inner[1], path)
-            # A loop around nothing may have very many turns.
-            elif word == "short" and inner[0]:
+            # A loop in which nothing is done may have very many turns.
+            elif word == "short" and self.busy[point]:
                 self.go_round(statement[1], 0, statement[2], inner[0], path)
-            elif word == "long" and inner[0]:
+            elif word == "long" and self.busy[point]:
                 low = form_number(statement[2], self.ground)
                 self.go_round(statement[1], low, form_number(statement[3], self.ground), inner[0], path)
 

@@ -177,12 +177,13 @@ def terms_in(zone, names, values):
         for j, other in enumerate(numbers):
             if zone[i][j] is not None and number - other > zone[i][j]:
                 return None
-    for place in range(len(terms), len(zone)):
+    first = len(names) + 1
+    for place in range(first, len(zone)):
         at, more = bound_for(zone, numbers, place)
         name, number = terms[at]
         numbers.append(numbers[at] + more)
         terms.append((name, number + more))
-    return tuple(terms[1 + len(names):])
+    return tuple(terms[first:])
 
 
 def bound_for(zone, numbers, place):

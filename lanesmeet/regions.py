@@ -4,10 +4,10 @@ from lanesmeet.cuts import cut, named_rows, places_for
 from lanesmeet.errors import BadName, BadPromises, BadRests, BadSizes, BadTold, OtherSizes
 from lanesmeet.forms import WIDEST, all_rests, are_promises, are_sizes, are_sizes_at, promise_rows, tiles_name
 from lanesmeet.papers import is_tree_for
-from lanesmeet.plain import has_bool, has_just_keys, is_number
+from lanesmeet.plain import has_bool, has_just_keys
 from lanesmeet.prover import tree_for
 from lanesmeet.wording import fits, free_in, one_of
-from lanesmeet.zones import common, has_numbers, lies_within, outside, thinned, tightened_by, whole
+from lanesmeet.zones import common, has_numbers, outside, thinned, tightened_by, whole
 
 
 def rank(thing):

@@ -29,7 +29,8 @@ def weighed(rows, start):
         values[b] = start.get(b, 0)
     came = {}
     last = None
-    for _ in range(len(values)):
+    rounds = len(values)
+    for _ in range(rounds):
         moved = False
         for at, (a, b, c) in enumerate(rows):
             low = values[a] - c
@@ -41,7 +42,7 @@ def weighed(rows, start):
         if not moved:
             base = values[None]
             return {spot: values[spot] - base for spot in values}, None
-    return None, ring_through(rows, came, last, len(values))
+    return None, ring_through(rows, came, last, rounds)
 
 
 def ring_through(rows, came, spot, count):

@@ -44,11 +44,6 @@ def loosed(zone, places):
             for i, row in enumerate(zone)]
 
 
-def cut_down(zone, places):
-    """The zone of these places alone, in this order."""
-    return [[zone[i][j] for j in places] for i in places]
-
-
 def lies_within(zone, other):
     """Whether all points of the zone are points of the other one."""
     for row, bounds in zip(zone, other):

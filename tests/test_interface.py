@@ -1,0 +1,112 @@
+"""The names, arguments and errors that the document lists for the parts that are there."""
+
+import importlib
+import inspect
+import unittest
+
+FUNCTIONS = {
+    "differences": "is_row(thing) is_system(thing) is_point(system,thing) is_ring(system,thing) ring(system) "
+                   "least_point(system) chains(system) is_chains(system,point,thing) most(system,a,b) "
+                   "closed(system) follows(system,row) is_follows(system,row,thing) needless(system) "
+                   "without(system,name) kept(system,names) joined(systems)",
+    "sayings": "is_saying(thing) free_names(saying) holds(saying,point) put_terms(saying,terms) "
+               "saying_of(systems) systems_of(saying) reach(saying) first_point(saying) is_within(one,other) "
+               "parting_point(one,other)",
+    "papers": "is_tree(claims,thing) nowhere(saying) within_paper(one,other) point_paper(saying,point)",
+    "kernels": "is_name(thing)",
+    "regions": "all_sizes(sizes,promises)",
+    "texts": "text_of(kernel) kernel_of(text)",
+    "meaning": "instances(kernel,sizes,block,lane) is_there(kernel,sizes,thing) cell_of(kernel,sizes,instance) "
+               "cases_of(kernel,point) marked(system) same_cell(kernel,one,first,other,second)",
+    "machine": "outcome_of(kernel,sizes,order)",
+    "beside": "compared(kernel,one,other) meeting_between(kernel,sizes,one,other) "
+              "are_beside(kernel,sizes,one,other) beside(kernel,case)",
+    "parted": "parted_cases(kernel,point) parting(kernel) is_parting(kernel,thing) parted_papers(kernel) "
+              "is_parted_papers(kernel,thing) parted_region(kernel)",
+    "races": "races_at(kernel,sizes) is_race(kernel,thing) race_cases(kernel) race_saying(kernel,case) "
+             "race(kernel) race_papers(kernel) are_race_papers(kernel,thing) race_region(kernel) verdict(kernel) "
+             "verdict_at(kernel,sizes)",
+    "orders": "two_orders(kernel,thing)",
+}
+CLASSES = {
+    ("kernels", "Kernel"): ("width,lanes,blocks,sizes,promises,arrays,body", "around(point) __eq__(other)"),
+    ("regions", "Region"): (
+        "sizes,promises,told",
+        "__contains__(thing) __bool__() __or__(other) __and__(other) __sub__(other) __invert__() __eq__(other) "
+        "within(other) told(rests) least() most(name) shown(other) is_shown(other,thing)"),
+    ("machine", "Run"): (
+        "kernel,sizes",
+        "able() standing(block,lane) do(block,lane) go(order) finish() end() content(cell) met() outcome()"),
+}
+BARE = (
+    "BadSystem BadName BadRow BadNames BadSaying BadPoint BadTerms BadClaims BadSizes BadPromises OtherSizes BadRests "
+    "BadWidth BadLanes BadBlocks BadArrays BadKernel BadSizesAt BadBlock BadLane BadInstance BadChoice NotAble BadStep "
+    "OtherBlocks SameLane BadPair BadRace StandsStill BadMany BadNumber BadBare BadGaps NotOne BadArray BadAxis BadSide "
+    "BadRegion BadPoints BadWindow BadPoly BadValues BadEnds BadSum BadSpan BadLayout BadCell BadBanks BadCounts "
+    "BadLaying BadAccess BadLot BadNest BadLine BadCarry BadChange BadHeights NotRising TooDeep BadRoles BadCopies "
+    "BadPlan BadFellows BadMap BadDeed BadWays NotDone").split()
+TOLD = {
+    "BadSystems": ("at",), "NotBounded": ("name",), "Ringed": ("ring",), "BadTold": ("key",),
+    "BadBody": ("point", "word"), "BadText": ("row",), "BadOrder": ("at",), "BadLots": ("at",),
+    "Fixed": ("sizes", "one", "other"), "NotFit": ("word",), "Missed": ("sizes", "deed"),
+    "Torn": ("sizes", "deed", "other"), "Behind": ("other",), "TooMany": ("most",)}
+
+
+class Interface(unittest.TestCase):
+    def test_functions(self):
+        for module, told in FUNCTIONS.items():
+            found = importlib.import_module("lanesmeet." + module)
+            for one in told.split():
+                name, arguments = one[:-1].split("(")
+                function = getattr(found, name)
+                self.assertEqual(function.__module__, "lanesmeet." + module)
+                self.assertEqual(",".join(inspect.signature(function).parameters), arguments, name)
+
+    def test_classes(self):
+        for (module, name), (made, methods) in CLASSES.items():
+            found = getattr(importlib.import_module("lanesmeet." + module), name)
+            self.assertEqual(found.__module__, "lanesmeet." + module)
+            self.assertEqual(list(inspect.signature(found).parameters), made.split(","))
+            for one in methods.split():
+                method, arguments = one[:-1].split("(")
+                self.assertIn(method, found.__dict__)
+                parameters = list(inspect.signature(found.__dict__[method]).parameters)[1:]
+                if not method.startswith("__"):
+                    self.assertEqual(",".join(parameters), arguments)
+
+    def test_bare_errors(self):
+        errors = importlib.import_module("lanesmeet.errors")
+        self.assertEqual(errors.LaneError.__bases__, (ValueError,))
+        for name in BARE:
+            found = getattr(errors, name)
+            self.assertEqual(found.__bases__, (errors.LaneError,), name)
+            self.assertEqual(str(found("words")), "words")
+
+    def test_errors_with_attributes(self):
+        errors = importlib.import_module("lanesmeet.errors")
+        things = [None, 3, "word", (1, 2), [1], {"n": (1, 0)}]
+        for name, attributes in TOLD.items():
+            found = getattr(errors, name)
+            self.assertEqual(found.__bases__, (errors.LaneError,), name)
+            self.assertEqual(tuple(inspect.signature(found.__init__).parameters)[1:], attributes)
+            for at in range(len(things)):
+                values = [things[(at + k) % len(things)] for k in range(len(attributes))]
+                made = found(*values)
+                self.assertEqual([getattr(made, word) for word in attributes], values)
+                named = found(**dict(zip(attributes, values)))
+                self.assertEqual([getattr(named, word) for word in attributes], values)
+                self.assertIsInstance(str(made), str)
+
+    def test_all_errors_are_listed(self):
+        errors = importlib.import_module("lanesmeet.errors")
+        own = {name for name, thing in vars(errors).items() if inspect.isclass(thing)}
+        self.assertEqual(own, set(BARE) | set(TOLD) | {"LaneError"})
+
+    def test_the_package_itself_defines_nothing(self):
+        package = importlib.import_module("lanesmeet")
+        names = [name for name in vars(package) if not name.startswith("__")]
+        self.assertEqual([name for name in names if not inspect.ismodule(getattr(package, name))], [])
+
+
+if __name__ == "__main__":
+    unittest.main()
