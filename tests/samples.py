@@ -143,3 +143,30 @@ def all_sizes_up_to(kernel, most):
 
 def numbers_at(sizes):
     return {"tiles " + name: sizes[name][0] for name in sizes}
+
+
+ONE = ("none", None, 1)
+NO_KERNELS = (None, 5, "kernel", (), {}, ONE)
+NO_SIZES_AT = (
+    None, 5, [], {}, {"n": (1, 0), "m": (0, 0)}, {"m": (1, 0)}, {"n": (True, 0)}, {"n": (1, False)}, {"n": [1, 0]},
+    {"n": (1,)}, {"n": (-1, 0)}, {"n": (1, 3)}, {"n": (9, 0)}, (("n", (1, 0)),), {"n": None})
+
+
+def shift_kernel(meets=True, promises=(), rests=(0,)):
+    """The kernel of point [72]: each lane takes its cell, and puts into the next one."""
+    take = ("take", "x", ("a", ((("block", 0, 0), ("lane", 1)),)))
+    put = ("put", ("a", ((("block", 0, 0), ("plus", ("lane", 1), ("is", 1))),)), "x")
+    body = (take, ("meet",), put) if meets else (take, put)
+    return Kernel(4, (1, 4), (("tiles", "n", 0), ONE), (("n", rests),), promises, (("far", "a", ("n",)),), body)
+
+
+def loop_kernel():
+    """The kernel of point [60]'s example: in each turn lane 0 puts, all meet, lane 1 takes."""
+    def only(lane, statement):
+        return ("if", ("small", ("lane", 1), "same", ("is", lane)), (statement,), ())
+
+    put = only(0, ("put", ("s", (("is", 0),)), "w"))
+    take = only(1, ("take", "x", ("s", (("is", 0),))))
+    loop = ("long", "t", ("none", None, 0), ("tiles", "n", 0), (put, ("meet",), take))
+    return Kernel(4, (1, 2), (ONE, ONE), (("n", (0, 1)),), (("n", None, 8),), (("shared", "s", (1,)),),
+                  (("let", "w", "f", ()), loop))
