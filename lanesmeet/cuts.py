@@ -6,7 +6,7 @@ from lanesmeet.zones import bare_rows, loosed, outside, thinned, tightened, whol
 
 def rows_first(parts):
     """The parts, rows ahead of all others: they cost little, and what they strike need not be looked at."""
-    return sorted(parts, key=lambda part: part[0] != "row")
+    return [part for part in parts if part[0] == "row"] + [part for part in parts if part[0] != "row"]
 
 
 def cut(zone, saying, truth, places):

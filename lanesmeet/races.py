@@ -246,7 +246,7 @@ def race_papers(kernel):
     outlines = Outlines(kernel)
     known = {}
     found = {}
-    for case in sorted(all_race_cases(kernel)):
+    for case in all_race_cases(kernel):
         key = outlines.key_of(case)
         if key not in known:
             known[key] = tree_for([(saying_for(kernel, case), True)])

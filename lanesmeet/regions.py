@@ -107,11 +107,11 @@ class Region:
         if not isinstance(other, Region) or self.sizes != other.sizes or self.promises != other.promises:
             raise OtherSizes("regions of unlike sizes or promises")
 
-    def __contains__(self, thing):
-        if not are_sizes_at(self.sizes, self.promises, thing):
+    def __contains__(self, x):
+        if not are_sizes_at(self.sizes, self.promises, x):
             return False
-        rests = tuple([thing[name][1] for name, _ in self.sizes])
-        tiles = [0] + [thing[name][0] for name, _ in self.sizes]
+        rests = tuple([x[name][1] for name, _ in self.sizes])
+        tiles = [0] + [x[name][0] for name, _ in self.sizes]
         return any([has_numbers(zone, tiles) for zone in self.lots[rests]])
 
     def __bool__(self):

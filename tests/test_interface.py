@@ -32,7 +32,7 @@ CLASSES = {
     ("kernels", "Kernel"): ("width,lanes,blocks,sizes,promises,arrays,body", "around(point) __eq__(other)"),
     ("regions", "Region"): (
         "sizes,promises,told",
-        "__contains__(thing) __bool__() __or__(other) __and__(other) __sub__(other) __invert__() __eq__(other) "
+        "__contains__(x) __bool__() __or__(other) __and__(other) __sub__(other) __invert__() __eq__(other) "
         "within(other) told(rests) least() most(name) shown(other) is_shown(other,thing)"),
     ("machine", "Run"): (
         "kernel,sizes",

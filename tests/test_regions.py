@@ -204,6 +204,11 @@ class OtherRegions(unittest.TestCase):
                     self.assertTrue(all(number <= greatest for number in tiles))
                     if greatest < 3 and not promises and len(names) == 1:
                         self.assertEqual(greatest, max(tiles))
+            # Finitely many sizes belong to it exactly if most is None for no name.
+            for name in names:
+                keys = itertools.product(*[rests for _, rests in sizes])
+                far = Region(sizes, promises, {key: ("row", None, "tiles " + name, -60) for key in keys})
+                self.assertEqual(bool(region & far), region.most(name) is None)
             # What has sizes has some whose tiles are small.
             numbers = [abs(c) for _, _, c in promises]
             bound = max([(talks.greatest(one) + 1) * 2 ** len(talks.bound_names(one)) for one in told.values()]
