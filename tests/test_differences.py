@@ -76,7 +76,7 @@ def small_systems():
             yield list(system)
     r = random.Random(10)
     wide = [(a, b, c) for a, b in itertools.permutations((None, "x", "y", "z"), 2) for c in range(-3, 5)]
-    for _ in range(700):
+    for _ in range(500):
         yield [r.choice(wide) for _ in range(r.randint(3, 6))]
 
 
@@ -138,8 +138,7 @@ class LeastPoints(unittest.TestCase):
         for system in SMALL:
             found = ring(system)
             self.assertEqual(found, first_ring(system), system)
-            points = list(box(system, -9, 9))
-            self.assertEqual(found is None, points != [], system)
+            self.assertEqual(found is None, next(box(system, -9, 9), None) is not None, system)
             if found is not None:
                 self.assertTrue(is_ring(system, found))
                 self.assertIsNone(least_point(system))
@@ -354,15 +353,15 @@ class Without(unittest.TestCase):
                 self.judge_cut(system, without(system, name), name)
 
     def judge_cut(self, system, left, name):
-        points = {tuple(sorted((key, one[key]) for key in one if key != name)) for one in box(system, -9, 9)}
         names = [own for own in names_of(system) if own != name]
         if ("!", None, 0) in left:
             self.assertEqual(left[-2:], [(None, "!", -1), ("!", None, 0)])
-            self.assertEqual(points, set())
+            self.assertIsNotNone(ring(system))
             return
         for numbers in itertools.product(range(-3, 4), repeat=len(names)):
             point = dict(zip(names, numbers))
-            self.assertEqual(keeps(left, point), tuple(sorted(point.items())) in points, (system, name))
+            found = any(keeps(system, {**point, name: number}) for number in range(-9, 10))
+            self.assertEqual(keeps(left, point), found, (system, name))
 
     def test_kept_is_without_one_by_one(self):
         for system in SMALL[-400:]:

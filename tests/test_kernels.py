@@ -47,7 +47,9 @@ class Heads(unittest.TestCase):
         self.wrong(BadWidth, "width", (0, 9, True, None, "4", (4,)))
 
     def test_lanes(self):
-        self.wrong(BadLanes, "lanes", (None, 4, [1, 4], (1,), (1, 2, 3), (0, 4), (1, 9), (3, 6), (True, 4), (1, None)))
+        self.wrong(BadLanes, "lanes", (None, 4, [1, 4], (1,), (1, 2, 3), (0, 4), (1, 9), (9, 1), (1, 0), (3, 6), (6, 3), (True, 4), (1, None)))
+        kernel(lanes=(8, 2))
+        kernel(lanes=(4, 4))
 
     def test_blocks(self):
         self.wrong(BadBlocks, "blocks", (
@@ -65,15 +67,17 @@ class Heads(unittest.TestCase):
         self.wrong(BadPromises, "promises", (
             None, [("n", "m", 2)], (("n", "k", 2),), (("n", "n", 2),), (("n", "m", 2),) * 9, (("n", "m", True),),
             (["n", "m", 2],), (("tiles n", None, 2),)))
+        kernel(promises=(("n", "m", 2),) * 8)
 
     def test_arrays(self):
         self.wrong(BadArrays, "arrays", (
             None, [("far", "a", ("n",))], (("far", "a", ("k",)),), (("far", "a", ()),), (("far", "a", ("n", "n", "n")),),
-            (("far", "a", ["n"]),), (("near", "a", ("n",)),), (("shared", "s", (0,)),), (("shared", "s", (17,)),),
+            (("far", "a", ["n"]),), (("near", "a", ("n",)),), (("near", "a", (4,)),), (("shared", "s", (0,)),), (("shared", "s", (17,)),),
             (("shared", "s", (True,)),), (("shared", "s", ()),), (("far", "a", ("n",)), ("shared", "a", (1,))),
             (("far", "A", ("n",)),), tuple(("far", name, ("n",)) for name in "abcdefg"), (("far", "a", (1,)),),
             (("shared", "s", ("n",)),), (("far", "a"),), (("shared", "s", (1, 2, 3)),)))
         kernel(arrays=(("far", "a", ("n", "n")), ("shared", "s", (16, 1))))
+        kernel(arrays=tuple(("far", name, ("n",)) for name in "abcdef"))
 
     def test_order_of_errors(self):
         wrong = {"width": 0, "lanes": 0, "blocks": 0, "sizes": 0, "promises": 0, "arrays": 0, "body": 0}
@@ -101,14 +105,16 @@ class Bodies(unittest.TestCase):
     def test_forms_of_statements(self):
         smalls = (None, 5, (), ("is",), ("is", True), ("is", None), ("lane", 2), ("lane", True), ("turn", "K"), ("rest", 5),
                   ("plus", ("is", 1)), ("plus", ("is", 1), 5), ("over", ("is", 1), 0), ("over", ("is", 1), 65),
-                  ("over", ("is", 1), True), ("rest of", ("is", 1), ("is", 2)), ("mod", ("is", 1), 2), ["is", 1])
+                  ("over", ("is", 1), True), ("rest of", ("is", 1), ("is", 2)), ("mod", ("is", 1), 2), ["is", 1],
+                  ("plus", 5, ("is", 1)), ("times", ("is", 1), ("is", 1), ("is", 1)), ("over", 5, 2), ("size", "n"),
+                  ("over", ("is", 1), 2, 2), ("is", 1, 1), ("lane",), ("lane", -1))
         forms = (None, ("none", 0, 1), ("none", None, True), ("block", 2, 0), ("block", True, 0), ("turn", "T", 0),
                  ("tiles", None, 0), ("tiles", "n"), ["none", None, 1], ("size", "n", 0))
         places = [None, ("a",), ("A", (SPOT, SPOT)), ("a", [SPOT, SPOT]), ("a", (SPOT, None)), ["a", (SPOT, SPOT)]]
         places += [("a", (SPOT, (("none", None, 0), small))) for small in smalls]
         places += [("a", (SPOT, (form, ("is", 0)))) for form in forms]
         statements = [None, 5, (), [], "meet", ("meet", 1), ["meet"], ("wait",), ("take", "x"), ("take", "X", FAR),
-                      ("put", "x", FAR), ("put", FAR), ("add", FAR, "x", 1), ("let", "x", "f"), ("let", "x", "F", ()),
+                      ("put", "x", FAR), ("put", FAR), ("add", FAR, "x", 1), ("put", FAR, "X"), ("add", 5, "x"), ("let", "x", "f"), ("let", "x", "F", ()),
                       ("let", "X", "f", ()), ("let", "x", "f", []), ("let", "x", "f", ("x",) * 5),
                       ("let", "x", "f", (5,)), ("short", "k", 0, ()), ("short", "k", 9, ()), ("short", "k", True, ()),
                       ("short", "K", 1, ()), ("short", "k", 1, []), ("short", "k", 1), ("long", "t", ONE, ONE),
@@ -117,7 +123,10 @@ class Bodies(unittest.TestCase):
         statements += [("take", "x", place) for place in places]
         guards = [("small", ("is", 0), "more", ("is", 0)), ("small", ("is", 0), 5, ("is", 0)),
                   ("small", ("is", 0), "less"), ("order", SPOT), ("order", SPOT, ("is", 0)), ("within", SPOT, 5),
-                  ("within", ("is", 0), "n"), ("not",), ("and", ("order", SPOT, SPOT)), ("xor", 1, 2), ()]
+                  ("within", ("is", 0), "n"), ("not",), ("small", 5, "less", ("is", 0)),
+                  ("small", ("is", 0), "less", 5), ("small", ("is", 0), "less", ("is", 0), 1), ("order", 5, SPOT),
+                  ("order", SPOT, SPOT, SPOT), ("beside", SPOT, "n"), ("and", ("order", SPOT, SPOT), 5),
+                  ("or", 5, ("order", SPOT, SPOT)), ("not", ("order", SPOT, SPOT), 1), ("within", SPOT, "n", 1), ("and", ("order", SPOT, SPOT)), ("xor", 1, 2), ()]
         statements += [("if", guard, (), ()) for guard in guards]
         good = ("order", SPOT, SPOT)
         statements += [("if", good, ()), ("if", good, [], ()), ("if", good, (), None)]
@@ -203,7 +212,10 @@ class Bodies(unittest.TestCase):
         self.wrong((("take", "x", ("b", (SPOT,))),), 0, "unknown")
         self.wrong((("put", ("b", (SPOT,)), "y"),), 0, "unknown")
         for guard in (("within", SPOT, "k"), ("small", ("turn", "k"), "less", ("is", 0)),
-                      ("not", ("order", SPOT, form)), ("and", ("order", SPOT, SPOT), ("within", turn, "n"))):
+                      ("not", ("order", SPOT, form)), ("order", form, SPOT),
+                      ("small", ("plus", ("rest", "k"), ("is", 1)), "less", ("is", 0)),
+                      ("small", ("is", 0), "less", ("minus", ("is", 1), ("rest", "k"))), ("within", form, "n"),
+                      ("or", ("order", SPOT, SPOT), ("order", form, SPOT)), ("and", ("order", SPOT, SPOT), ("within", turn, "n"))):
             self.wrong((("if", guard, (), ()),), 0, "unknown")
         self.wrong((("long", "k", ("turn", "k", 0), ONE, ()),), 0, "unknown")
         self.wrong((("long", "k", ONE, ("tiles", "k", 0), ()),), 0, "unknown")

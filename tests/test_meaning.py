@@ -150,6 +150,17 @@ class Instances(unittest.TestCase):
                          lambda: cell_of(kernel, sizes, 0)):
                 with self.assertRaises(BadSizesAt):
                     call()
+        two = Kernel(2, (1, 1), (ONE, ONE), (("n", (0,)), ("m", (1,))), (("m", "n", -1), (None, "m", -1)), (), ())
+        for n, m in itertools.product(range(4), repeat=2):
+            sizes = {"m": (m, 1), "n": (n, 0)}
+            if 1 <= m < n:
+                self.assertEqual(instances(two, sizes, (0, 0), (0, 0)), [])
+                continue
+            with self.assertRaises(BadSizesAt):
+                instances(two, sizes, (0, 0), (0, 0))
+        for thing in ({"n": ("3", 0), "m": (1, 1)}, {"n": (None, 0), "m": (1, 1)}, {"n": (3, None), "m": (1, 1)}):
+            with self.assertRaises(BadSizesAt):
+                instances(two, thing, (0, 0), (0, 0))
         for block in (None, 0, (2, 0), (0, 1), (-1, 0), [0, 0], (True, 0), (0,), (0, 0, 0)):
             with self.assertRaises(BadBlock):
                 instances(kernel, good, block, None)

@@ -79,7 +79,8 @@ class Making(unittest.TestCase):
         for told, key in ((None, None), ([], None), (((1,), row), None), ({(2,): row}, (2,)), ({(1,): 5}, (1,)),
                           ({(1,): ("row", None, "tiles m", 0)}, (1,)), ({(1,): ("row", None, "n", 0)}, (1,)),
                           ({(True,): row}, (True,)), ({1: row}, 1), ({(0,): row, (1,): 5, (5,): row}, (1,)),
-                          ({(7,): row, (5,): row, 3: row}, 3), ({"b": row, "a": row, (0,): row}, "a"),
+                          ({(7,): row, (5,): row, 3: row}, 3), ({(7,): row, (5,): row, (6,): row}, (5,)),
+                          ({(0, 7): row, (0, 5, 1): row}, (0, 5, 1)), ({9: row, 7: row, "a": row}, 7), ({"b": row, "a": row, (0,): row}, "a"),
                           ({None: row, (9,): row, 4: row}, None), ({(0, 0): row}, (0, 0)), ({(): row}, ())):
             with self.assertRaises(BadTold) as caught:
                 Region(SIZES, (), told)

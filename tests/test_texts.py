@@ -175,7 +175,8 @@ class Read(unittest.TestCase):
                     "long t 0 to 1:", "long from 0 to 1:", "if:", "if small 1 < 2", "if small 1 = 2:", "if small 1 > 2:",
                     "if 1 < 2:", "if order 1: 0 < 2: 0:", "if order 1 <= 2: 0:", "if within 1: 0 n:", "if within 1: 0 of 5:",
                     "if not:", "if (small 1 < 2):", "if (small 1 < 2 and):", "if small 1 < 2 and small 1 < 2:",
-                    "if (small 1 < 2 nor small 1 < 2):", "else:", "else", "5", "=", "takex from s[1]", "short k4:"):
+                    "if (small 1 < 2 nor small 1 < 2):", "if inside 1: 0 of n:", "take x from s[(1 == 2)]",
+                    "else:", "else", "5", "=", "takex from s[1]", "short k4:"):
             self.in_body(row + "\n", 1)
             self.in_body("meet\n\n" + row + "\nmeat\n", 3)
 
@@ -201,6 +202,13 @@ class Read(unittest.TestCase):
             ("if", guard, (("if", guard, (("meet",),), ()), ("meet",)), (("short", "k", 1, ()),)),))
         text = HEAD + "if small 1 < 2:\n  if small 1 < 2:\n  else:\n\n    meet\n"
         self.assertEqual(kernel_of(text).body, (("if", guard, (("if", guard, (), (("meet",),)),), ()),))
+
+    def test_the_longest_numbers_and_names(self):
+        text = text_of(example()).replace("promise n - 0 <= 3", "promise n - 0 <= 999999999").replace("f(x, x)", "abcdefgh(x)")
+        self.assertEqual(text_of(kernel_of(text)), text)
+        self.assertEqual(kernel_of(text).promises[0], ("n", None, 999999999))
+        self.wrong(text.replace("999999999", "1000000000"), 6)
+        self.wrong(text.replace("abcdefgh(", "abcdefghi("), 12)
 
     def test_words_of_rows_may_be_names(self):
         text = """\
