@@ -122,6 +122,11 @@ class Forms(unittest.TestCase):
         for thing in (None, [], [2], [4], [2, 4.5], [True, 4], [2, 5], [-3, 4], {2: 4}, [0, 1], "24", [[2], 4]):
             self.assertIs(is_ring(rows, thing), False)
         self.assertIs(is_ring([(None, "x", 0), ("x", None, -1)], [False, True]), False)
+        # A sum of 0 is none below 0, and rows must hang together.
+        self.assertIs(is_ring([(None, "x", 0), ("x", None, 0)], [0, 1]), False)
+        loose = [("x", "y", -5), ("z", "x", 0), ("y", "x", 1)]
+        for thing, wanted in (([0, 1], False), ([0, 2], True), ([0, 2, 1], False), ([5], False), ([3], False), ([-1], False)):
+            self.assertIs(is_ring(loose, thing), wanted)
 
 
 class LeastPoints(unittest.TestCase):
@@ -277,6 +282,10 @@ class WhatFollows(unittest.TestCase):
         for thing in (None, ["way", [0, 3]], ("way", [0]), ("way", [3, 0]), ("way", None), ("ring", [0, 1]),
                       ("point", {"x": 5, "y": 0}), ("way", [0, 3], 1), ("other", [0, 3]), ("way", [False, 3])):
             self.assertIs(is_follows(EXAMPLE, row, thing), False)
+        twice = EXAMPLE + [("x", None, 6)]
+        self.assertIs(is_follows(twice, row, ("way", [4, 3])), False)
+        self.assertIs(is_follows(twice, ("x", "y", 6), ("way", [4, 3])), True)
+        self.assertIs(is_follows(EXAMPLE, row, ("way", [2, 3])), False)
         row = ("x", "y", 4)
         self.assertIs(is_follows(EXAMPLE, row, ("point", {"x": 5, "y": 0})), True)
         self.assertIs(is_follows(EXAMPLE, row, ("point", {"x": 4, "y": 0})), False)
@@ -341,6 +350,8 @@ class Without(unittest.TestCase):
         for names in (None, ["x"], ("y", "x"), ("z",), ("x", "x"), (None,), (5,), ("x", [])):
             with self.assertRaises(BadNames):
                 kept(EXAMPLE, names)
+        just = [(f"a{at}", "x", 0) for at in range(20)] + [("x", f"b{at}", 0) for at in range(20)]
+        self.assertEqual(len(without(just, "x")), 400)
         rows = [(f"a{at}", "x", 0) for at in range(30)] + [("x", f"b{at}", 0) for at in range(30)]
         for call in (lambda: without(rows, "x"), lambda: kept(rows, tuple(sorted(names_of(rows))[:-1]))):
             with self.assertRaises(TooMany) as caught:
@@ -388,6 +399,7 @@ class Without(unittest.TestCase):
             with self.assertRaises(BadSystems) as caught:
                 joined(thing)
             self.assertEqual(caught.exception.at, at)
+        self.assertEqual(len(joined([[("x", None, 1)] * 200] * 2)), 400)
         many = [("x", None, 1)] * 201
         with self.assertRaises(TooMany) as caught:
             joined([many, many])

@@ -142,6 +142,7 @@ class Systems(unittest.TestCase):
 
     def test_reach(self):
         self.assertEqual(reach(ALWAYS), 0)
+        self.assertEqual(reach(("and", (ALWAYS, ("row", "a", None, 0)))), 1)
         self.assertEqual(reach(("row", "a", None, -7)), 8)
         self.assertEqual(reach(("and", (("row", "a", "b", -7), ("row", "a", "b", 9)))), 20)
         twice = ("and", (BETWEEN, BETWEEN, ("all", ("Y", "Z"), ALWAYS)))
