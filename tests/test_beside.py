@@ -235,7 +235,8 @@ class Sayings(unittest.TestCase):
         self.assertTrue(is_saying(beside(kernel, good)))
         for case in (None, 5, list(good), good[:2], ((2, 0), (4, 1), "equal"), ((2, 0), (4, 1), None),
                      ((2, 0), (4, 0), "same"), ((3, 0), (4, 1), "same"), ((0, 0), (4, 1), "same"), ((2, 2), (4, 1), "same"),
-                     ((2, -1), (4, 1), "same"), ((2, False), (4, 1), "same"), ([2, 0], (4, 1), "same"), ((2,), (4, 1), "same"),
+                     ((2, -1), (4, 0), "same"), ((2, 0), (4, -1), "same"), ((2, 0), (4, 2), "same"), ((2, False), (4, 1), "same"),
+                      ([2, 0], (4, 1), "same"), ((2,), (4, 1), "same"),
                      ((2, 0), (4, 1), ["same"]), ((9, 0), (4, 1), "same")):
             with self.assertRaises(BadPair):
                 beside(kernel, case)
@@ -274,6 +275,13 @@ class Sayings(unittest.TestCase):
         self.assertEqual(saying[0], "and")
         self.assertEqual(saying[1][-1], ("not", ("some", (it,), inner)))
         self.assertEqual([part[0] for part in saying[1]], ["row"] * (len(saying[1]) - 1) + ["not"])
+
+    def test_rows_of_sizes_promises_and_blocks_are_left_out_of_meetings(self):
+        plain = example_kernel()
+        kernel = Kernel(1, (1, 2), (("tiles", "n", 0), ONE), plain.sizes, (("n", None, 9), (None, "n", 0)), plain.arrays,
+                        plain.body)
+        case = ((2, 0), (4, 1), "same")
+        self.assertEqual(beside(kernel, case)[1][-1], beside(plain, case)[1][-1])
 
     def test_short_loops_in_ahead(self):
         loop = ("short", "k", 2, (("put", ("s", (("is", 0),)), "w"), ("meet",)))

@@ -131,7 +131,8 @@ class Errors(unittest.TestCase):
         sizes = {"n": (1, 0)}
         first = (B, (0, 0))
         for order, at in ((None, None), (5, None), ({}, None), ([None], 0), ([first, first], 1), ([list(first)], 0),
-                          ([first, ((1, 0), (0, 0))], 1), ([((False, 0), (0, 0))], 0), ([first, (B, (0, 1)), "x"], 2),
+                          ([first, ((1, 0), (0, 0))], 1), ([((False, 0), (0, 0))], 0), ([first, (B, (0, True))], 1), ([first, (B, (False, 1))], 1),
+                           ([first, (B, (0, 1)), "x"], 2),
                           ([(B, (0, 4))], 0), ([(B,)], 0)):
             run = Run(kernel, sizes)
             with self.assertRaises(BadOrder) as caught:

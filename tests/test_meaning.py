@@ -377,7 +377,16 @@ class SameCells(unittest.TestCase):
         self.assertEqual(same_cell(ifs, 1, ((0, 0), (), (0,), (0,)), 1, ((0, 0), (), (0,), (0,))), [])
         for side in (1, -1, True, False, None):
             with self.assertRaises(BadChoice):
-                same_cell(ifs, 1, ((0, 0), (), (0,), (side,)), 1, None)
+                same_cell(ifs, 1, ((0, 0), (), (0,), (side,)), 1, ((0, 0), (), (0,), (0,)))
+        take = ("take", "x", ("s", (("turn", "k"),)))
+        short = Kernel(1, (1, 1), (ONE, ONE), (), (), (("shared", "s", (2,)),), (("short", "k", 2, (take,)),))
+        good = ((0, 0), (1,), (), ())
+        self.assertEqual(same_cell(short, 1, good, 1, good), [])
+        for turns in ((2,), (-1,), (True,), (), (0, 0), None, [1]):
+            with self.assertRaises(BadChoice):
+                same_cell(short, 1, ((0, 0), turns, (), ()), 1, good)
+            with self.assertRaises(BadChoice):
+                same_cell(short, 1, good, 1, ((0, 0), turns, (), ()))
 
     def test_by_hand(self):
         kernel = samples.shift_kernel()

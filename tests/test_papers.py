@@ -106,6 +106,17 @@ class Judging(unittest.TestCase):
         for tree in (("at", 0, (("a", 4), ("a", 4)), ("part", 2, ())), ("at", 0, [("a", 4)], ("part", 2, ())),
                      ("at", 1, (("a", 4),), ("part", 2, ())), ("at", 0, (("a", 4),)), ("at", 0, (), ("part", 2, ()))):
             self.assertIs(is_tree(claims, tree), False)
+        # A number is none if it is a bool, and a name must be in the list, even if the rest would add up.
+        low = [(every, True), (("row", "a", None, -3), True)]
+        ring = ("ring", ((None, "a", 2), ("a", None, -3)))
+        self.assertIs(is_tree(low, ("at", 0, ((None, 1),), ring)), True)
+        self.assertIs(is_tree(low, ("at", 0, ((None, True),), ring)), False)
+        self.assertIs(is_tree(low, ("ask", 0, ((None, 1),), ring)), False)
+        both = [(("all", ("X",), ("row", "X", None, 0)), True), (("all", ("X",), ("row", None, "X", -1)), True)]
+        ring = ("ring", (("q", None, 0), (None, "q", -1)))
+        tree = ("at", 0, (("q", 0),), ("at", 1, (("q", 0),), ring))
+        self.assertIs(is_tree(both, tree), False)
+        self.assertIs(is_tree(both + [(("row", "q", "p", 0), True)], tree), True)
         some = ("some", ("X",), ("row", "a", "X", 3))
         self.assertIs(is_tree([(some, False)], ("at", 0, (("a", 0),), ("part", 1, ()))), True)
         self.assertIs(is_tree([(some, True)], ("at", 0, (("a", 0),), ("part", 1, ()))), False)
@@ -128,11 +139,26 @@ class Judging(unittest.TestCase):
         self.assertIs(is_tree(claims, ("split", ("a", None, 1), ("ring", (("a", None, 2), (None, "a", -3))),
                                        ("ring", ((None, "a", -2), ("a", None, 1))))), False)
         good = ("ring", (("a", None, 2), (None, "a", -3)))
-        for tree in (("split", ("c", None, 1), good, good), ("split", ("a", "a", 1), good, good),
+        bad = ("ring", (("a", None, 2), (None, "a", -2)))
+        self.assertIs(is_tree(claims, ("split", ("a", None, 1), good, good)), True)
+        for tree in (("split", ("a", None, 1), bad, good), ("split", ("a", None, 1), good, bad),
+                     ("split", ("a", "c", 1), good, good), ("split", (None, "c", 1), good, good),
+                     ("split", ("c", None, 1), good, good), ("split", ("a", "a", 1), good, good),
                      ("split", ["a", None, 1], good, good), ("split", ("a", None, True), good, good),
                      ("split", ("a", None, 1), good), ("split", ("a", None, 1), good, good, good),
                      ("split", None, good, good), ("split", ("a", None, 1), good, first)):
             self.assertIs(is_tree(claims, tree), False)
+
+    def test_splits_tell_a_row_or_its_contrary(self):
+        other = ("row", "b", None, 0)
+        claims = [(("or", (("row", "a", None, 1), other)), True), (("or", (("row", None, "a", -2), other)), True),
+                  (("row", None, "b", -1), True)]
+        near = ("ring", (("a", None, 1), (None, "a", -2)))
+        far = ("ring", (("b", None, 0), (None, "b", -1)))
+        first, second = ("part", 1, (near, far)), ("part", 0, (near, far))
+        self.assertIs(is_tree(claims, ("split", ("a", None, 1), first, second)), True)
+        self.assertIs(is_tree(claims, ("split", ("a", None, 1), second, first)), False)
+        self.assertIs(is_tree(claims, ("split", (None, "a", -2), second, first)), True)
 
     def test_of_any_value(self):
         for thing in (None, 5, "ring", (), [], {}, ("other", 0, BY_HAND), (("ring",),), True, ("open",), ("part", 0),

@@ -66,6 +66,17 @@ class Cases(unittest.TestCase):
                 call()
             self.assertEqual(caught.exception.most, 20000)
 
+    def test_too_many_of_all_meetings_together(self):
+        body = (("if", ("small", ("lane", 1), "same", ("is", 0)), (("meet",), ("meet",)), ()),)
+        for name in "klm":
+            body = (("short", name, 8, body),)
+        kernel = Kernel(1, (2, 8), (ONE, ONE), (), (), (), body)
+        self.assertEqual([len(parted_cases(kernel, point)) for point in (4, 5)], [14336, 14336])
+        for call in (parting, parted_papers, parted_region, lambda one: is_parted_papers(one, {})):
+            with self.assertRaises(TooMany) as caught:
+                call(kernel)
+            self.assertEqual(caught.exception.most, 20000)
+
     def test_by_hand(self):
         kernel = guarded(WITHIN)
         # Block 0 + 1 stands at tile block + 1: lane 0 is within with a rest of 1 at block = tiles - 1, lane 1 is not.
@@ -181,6 +192,9 @@ class Partings(unittest.TestCase):
                 self.assertIs(is_parting(kernel, good[:at] + (thing,) + good[at + 1:]), False, thing)
         for thing in (None, 5, list(good), good[:5], good + (1,), {}):
             self.assertIs(is_parting(kernel, thing), False)
+        words = guarded(WITHIN, body=(("if", WITHIN, (("let", "x", "f", ()), ("meet",)), ()),))
+        self.assertIs(is_parting(words, good[:4] + (2, ())), True)
+        self.assertIs(is_parting(words, good[:4] + (1, ())), False)
 
     def test_is_parted_papers_of_any_value(self):
         kernel = guarded(WITHIN, sizes=(("n", (0,)),))

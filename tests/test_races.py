@@ -14,7 +14,7 @@ from lanesmeet.meaning import cases_of, cell_of, same_cell
 from lanesmeet.papers import is_tree
 from lanesmeet.parted import parted_region
 from lanesmeet.races import (
-    are_race_papers, is_race, race, race_cases, race_papers, race_region, race_saying, races_at, verdict, verdict_at)
+    Outlines, are_race_papers, is_race, race, race_cases, race_papers, race_region, race_saying, races_at, verdict, verdict_at)
 from lanesmeet.regions import Region, all_sizes
 from lanesmeet.sayings import is_saying, systems_of
 
@@ -135,6 +135,17 @@ class RacesAt(unittest.TestCase):
                       (sizes, (0, (0, 0), (0, 1), ()), (2, B, (0, 0), ())), (sizes, (1, (1, 0), (0, 0), ()), other)):
             self.assertIs(is_race(kernel, thing), False, thing)
 
+    def test_what_is_near_a_race(self):
+        cell = ("s", (("is", 0),))
+        body = (("take", "x", cell), ("take", "x", cell), ("add", cell, "x"), ("add", cell, "x"), ("put", cell, "x"))
+        kernel = Kernel(1, (1, 2), (ONE, ONE), (), (), (("shared", "s", (1,)),), body)
+        for one, other in itertools.product(range(5), repeat=2):
+            words = {body[one][0], body[other][0]}
+            crosses = "put" in words or words == {"take", "add"}
+            first = (one, B, (0, 0), ())
+            self.assertEqual(is_race(kernel, ({}, first, (other, B, (0, 1), ()))), crosses and one <= other)
+            self.assertIs(is_race(kernel, ({}, first, (other, B, (0, 0), ()))), False)
+
     def test_one_outcome_exactly_without_races(self):
         counts = [0, 0]
         for seed in range(1200):
@@ -191,6 +202,18 @@ class Cases(unittest.TestCase):
                 saying = race_saying(kernel, case)
                 self.assertEqual(saying, ("and", (beside(kernel, case),) + tuple(rows)))
                 self.assertTrue(is_saying(saying))
+
+    def test_outlines_are_equal_exactly_if_sayings_are(self):
+        told = 0
+        for seed in range(250):
+            kernel = samples.made_kernel(seed, many=9, lane_pairs=((1, 2), (2, 1)))
+            outlines = Outlines(kernel)
+            sayings = {}
+            for case in race_cases(kernel)[:400]:
+                sayings.setdefault(outlines.key_of(case), set()).add(repr(race_saying(kernel, case)))
+            self.assertTrue(all(len(own) == 1 for own in sayings.values()), seed)
+            told += len(sayings)
+        self.assertGreater(told, 1000)
 
     def test_bad_pairs(self):
         kernel = samples.shift_kernel()
