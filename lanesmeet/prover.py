@@ -142,7 +142,8 @@ class Prover:
         """As settled, the claim of this number being parted."""
         children = []
         used = {number: True}
-        for claim in parts_of(self.book[number]):
+        claims = parts_of(self.book[number])
+        for claim in claims:
             come = self.entered([claim])
             node, point = self.settled(self.grown(branch, come, number))
             if node is None:
