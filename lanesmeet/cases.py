@@ -189,10 +189,10 @@ def loop_rows(statement):
     return [tied(statement[2], turn, 0), tied(turn, statement[3], -1)]
 
 
-def sided_rows(kernel, point, sight):
-    """All pairs of sides and the rows of the loops and ifs around a point, the sides ascending."""
+def sided_rows(kernel, around, sight):
+    """All pairs of sides and the rows of the loops and ifs in around, pairs (point, side), the sides ascending."""
     found = [((), [])]
-    for outer, side in kernel.arounds[point]:
+    for outer, side in around:
         statement = kernel.statements[outer]
         if statement[0] == "long":
             rows = loop_rows(statement)
@@ -213,13 +213,18 @@ def point_cases(kernel, point):
 
 def new_cases(kernel, point):
     """All cases of a point, choices ascending."""
+    return cases_along(kernel, point, kernel.arounds[point])
+
+
+def cases_along(kernel, point, around):
+    """As the cases of a point, of what has its loops, and around it the loops and ifs in around."""
     base = size_rows(kernel) + block_rows(kernel)
     found = []
     for lane in lanes_of(kernel):
         for turns in all_short_turns(kernel, point):
             for rests in all_rests(kernel.sizes):
                 sight = choice_sight(kernel, point, (lane, turns, rests, ()))
-                for sides, rows in sided_rows(kernel, point, sight):
+                for sides, rows in sided_rows(kernel, around, sight):
                     found.append(((lane, turns, rests, sides), base + rows))
                 check_many(len(found))
     return found

@@ -1,6 +1,6 @@
 """Pair cases: two instances told for all sizes, and the saying that they are side by side."""
 
-from lanesmeet.cases import DEEDS, is_point_of, long_loops, marked_rows, point_cases, points_of, short_loops
+from lanesmeet.cases import DEEDS, MARK, is_point_of, marked_rows, point_cases, points_of, short_loops
 from lanesmeet.plain import is_number_tuple, is_tuple_of
 from lanesmeet.wording import said
 
@@ -10,11 +10,15 @@ NEVER = ("or", ())
 
 
 class Stand:
-    """A step told for all sizes: its point, the numbers of its short loops by names, and the names of long turns."""
+    """A step told for all sizes: its loops, its spot in the text, the numbers of its short loops, the names of turns.
 
-    def __init__(self, kernel, point, choice, head, tail):
-        self.point = point
-        self.shorts = dict(zip(short_loops(kernel, point), choice[1]))
+    Spots of statements are odd, so that what stands between two statements has one, too.
+    """
+
+    def __init__(self, loops, spot, shorts, head, tail):
+        self.loops = loops
+        self.spot = spot
+        self.shorts = shorts
         self.head = head
         self.tail = tail
 
@@ -22,20 +26,29 @@ class Stand:
         """The name of the turn of a long loop."""
         return self.head + loop + self.tail
 
+    def turn_names(self):
+        """The names of the turns of all its long loops, the outermost first."""
+        return tuple([self.turn_name(name) for sort, name, _ in self.loops if sort == "long"])
+
+
+def stand_for(kernel, point, choice, head, tail):
+    """The step of a statement by a choice."""
+    return Stand(kernel.loops[point], 2 * point + 1, dict(zip(short_loops(kernel, point), choice[1])), head, tail)
+
 
 def first_stand(kernel, point, choice):
     """The step of the first one of two instances."""
-    return Stand(kernel, point, choice, "turn ", "")
+    return stand_for(kernel, point, choice, "turn ", "")
 
 
 def second_stand(kernel, point, choice):
     """The step of the second one of two instances."""
-    return Stand(kernel, point, choice, "turn ", " b")
+    return stand_for(kernel, point, choice, "turn ", MARK)
 
 
 def meeting_stand(kernel, point, choice):
     """The step of a meeting."""
-    return Stand(kernel, point, choice, "Turn ", "")
+    return stand_for(kernel, point, choice, "Turn ", "")
 
 
 def is_pair_case(kernel, thing):
@@ -79,10 +92,10 @@ def base_rows(kernel, case):
     return first + marked_rows(second[spare:]) + how_rows(how)
 
 
-def ahead(kernel, one, other):
+def ahead(one, other):
     """The saying that the one step is ahead of the other one."""
-    found = ALWAYS if one.point < other.point else NEVER
-    common = [loop for loop in kernel.loops[one.point] if loop in kernel.loops[other.point]]
+    found = ALWAYS if one.spot < other.spot else NEVER
+    common = [loop for loop in one.loops if loop in other.loops]
     for sort, name, _ in reversed(common):
         if sort == "long":
             found = ahead_by_turn(one.turn_name(name), other.turn_name(name), found)
@@ -104,27 +117,28 @@ def bound_turn(name):
     return name
 
 
-def meeting_saying(kernel, meeting, system, one, other):
-    """The saying that a meeting of a case stands between two steps."""
-    spare = len(kernel.sizes) + len(kernel.promises) + 4
-    rows = [said((bound_turn(a), bound_turn(b), c)) for a, b, c in system[spare:]]
-    before = ("and", (ahead(kernel, one, meeting), ahead(kernel, meeting, other)))
-    behind = ("and", (ahead(kernel, other, meeting), ahead(kernel, meeting, one)))
+def meeting_saying(meeting, system, one, other):
+    """The saying that a meeting, whose loops and ifs the rows of system tell, stands between two steps."""
+    rows = [said((bound_turn(a), bound_turn(b), c)) for a, b, c in system]
+    before = ("and", (ahead(one, meeting), ahead(meeting, other)))
+    behind = ("and", (ahead(other, meeting), ahead(meeting, one)))
     inner = ("and", tuple(rows + [("or", (before, behind))]))
-    names = [meeting.turn_name(loop) for loop in long_loops(kernel, meeting.point)]
-    return ("some", tuple(names), inner) if names else inner
+    names = meeting.turn_names()
+    return ("some", names, inner) if names else inner
 
 
 def meeting_parts(kernel, one, first, other, second):
     """The sayings that no meeting stands between two instances of one block, told by points and choices."""
     stand = first_stand(kernel, one, first)
     mate = second_stand(kernel, other, second)
+    # In front of the rows of loops and ifs stand those of sizes, promises and blocks.
+    spare = len(kernel.sizes) + len(kernel.promises) + 4
     parts = []
     for point in points_of(kernel, ("meet",)):
         for choice, system in point_cases(kernel, point):
             if choice[0] == first[0] and choice[2] == first[2]:
                 meeting = meeting_stand(kernel, point, choice)
-                parts.append(("not", meeting_saying(kernel, meeting, system, stand, mate)))
+                parts.append(("not", meeting_saying(meeting, system[spare:], stand, mate)))
     return parts
 
 

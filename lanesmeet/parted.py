@@ -1,15 +1,16 @@
 """Parted meetings: those that some lanes of a block come to and others do not."""
 
 from lanesmeet.cases import check_many, choice_sight, is_block, is_instance, is_lane, is_point_of, lanes_of
-from lanesmeet.cases import long_loops, point_cases, points_of, stands_there
-from lanesmeet.differences import is_ring_of, lowest
+from lanesmeet.cases import point_cases, points_of, stands_there
+from lanesmeet.differences import lowest
 from lanesmeet.errors import BadPoint
+from lanesmeet.finding import Scales, all_turns, block_of, sizes_of
 from lanesmeet.forms import are_sizes_at
 from lanesmeet.guards import guard_parts
 from lanesmeet.kernels import check_kernel
-from lanesmeet.plain import has_just_keys, is_listing, is_tuple_of
+from lanesmeet.plain import has_just_keys, is_tuple_of
+from lanesmeet.rings import are_rings, rings_of
 from lanesmeet.sizing import Lots
-from lanesmeet.ways import first_ring, weighed
 
 MEETS = ("meet",)
 
@@ -73,9 +74,10 @@ def parting(kernel):
 
 def first_parting(kernel, parted):
     """The parting at the least point of the first of the parted cases that has one, None if there is none."""
+    scales = Scales()
     for point in parted:
         for choice, way, system in parted[point]:
-            if weighed(system, {})[0] is not None:
+            if scales.has_point(system):
                 return parting_at(kernel, point, choice, way, lowest(system))
     return None
 
@@ -83,20 +85,8 @@ def first_parting(kernel, parted):
 def parting_at(kernel, point, choice, way, numbers):
     """The parting of a parted case at a point of its system."""
     lane, turns, rests, _ = choice
-    pairs = {size[0]: (numbers["tiles " + size[0]], rest) for size, rest in zip(kernel.sizes, rests)}
-    sizes = {name: pairs[name] for name in sorted(pairs)}
-    block = (numbers["block 0"], numbers["block 1"])
-    return sizes, block, lane, way[0], point, all_turns(kernel, point, turns, numbers)
-
-
-def all_turns(kernel, point, turns, numbers):
-    """The numbers of all loops around a point, those of long ones as numbers tell."""
-    long = {name: numbers["turn " + name] for name in long_loops(kernel, point)}
-    shorts = list(turns)
-    found = []
-    for sort, name, _ in kernel.loops[point]:
-        found.append(long[name] if sort == "long" else shorts.pop(0))
-    return tuple(found)
+    sizes = sizes_of(kernel, rests, numbers)
+    return sizes, block_of(numbers, ""), lane, way[0], point, all_turns(kernel, point, turns, numbers, "")
 
 
 def is_parting(kernel, thing):
@@ -115,25 +105,18 @@ def is_parting(kernel, thing):
     return stands_there(kernel, sizes, own) and not stands_there(kernel, sizes, (point, block, other, turns))
 
 
-def rings_of(systems):
-    """The first ring of each of the systems."""
-    known = {}
-    found = []
-    for system in systems:
-        key = tuple(system)
-        if key not in known:
-            known[key] = first_ring(system)
-        found.append(list(known[key]))
-    return found
-
-
 def parted_papers(kernel):
     """For each meeting the first rings of its parted cases; None if there is a parting."""
     check_kernel(kernel)
     parted = all_parted(kernel)
     if first_parting(kernel, parted) is not None:
         return None
-    return {point: rings_of([system for _, _, system in parted[point]]) for point in parted}
+    return {point: rings_of(systems_in(parted[point])) for point in parted}
+
+
+def systems_in(cases):
+    """The systems of parted cases."""
+    return [system for _, _, system in cases]
 
 
 def is_parted_papers(kernel, thing):
@@ -142,14 +125,7 @@ def is_parted_papers(kernel, thing):
     parted = all_parted(kernel)
     if not has_just_keys(thing, list(parted)):
         return False
-    for point in parted:
-        rings = thing[point]
-        if not is_listing(rings) or len(rings) != len(parted[point]):
-            return False
-        for found, (_, _, system) in zip(rings, parted[point]):
-            if not is_ring_of(system, found):
-                return False
-    return True
+    return all([are_rings(systems_in(parted[point]), thing[point]) for point in parted])
 
 
 def parted_region(kernel):

@@ -154,9 +154,9 @@ def race_cases(kernel):
     return list(all_race_cases(kernel))
 
 
-def saying_for(kernel, case):
-    """The saying of a race case."""
-    rows = [said(row) for row in cell_rows(kernel, case)]
+def saying_for(kernel, case, more):
+    """The saying of a race case, and behind it more rows."""
+    rows = [said(row) for row in cell_rows(kernel, case) + list(more)]
     return "and", tuple([beside_saying(kernel, case)] + rows)
 
 
@@ -165,7 +165,7 @@ def race_saying(kernel, case):
     check_kernel(kernel)
     if not is_race_case(kernel, case):
         raise BadPair("this is no race case")
-    return saying_for(kernel, case)
+    return saying_for(kernel, case, ())
 
 
 class Outlines:
@@ -200,10 +200,10 @@ class Outlines:
             self.betweens[key] = self.number_for(repr(parts_between(self.kernel, case)))
         return self.betweens[key]
 
-    def key_of(self, case):
-        """What stands for the saying of a race case: equal for two exactly if their sayings are."""
+    def key_of(self, case, more):
+        """What stands for the saying of a race case with more rows: equal for two exactly if their sayings are."""
         one, other, how = case
-        rows = tuple(cell_rows(self.kernel, case))
+        rows = tuple(cell_rows(self.kernel, case)) + more
         return self.system_key(one), self.system_key(other), how, rows, self.between_key(case)
 
 
@@ -211,19 +211,24 @@ def race_region(kernel):
     """The region of the sizes with a race."""
     check_kernel(kernel)
     if "race region" not in kernel.held:
-        kernel.held["race region"] = new_race_region(kernel)
+        kernel.held["race region"] = region_of(kernel, plain_cases(kernel))
     return kernel.held["race region"]
 
 
-def new_race_region(kernel):
-    """The region of the sizes at which the saying of some race case holds."""
+def plain_cases(kernel):
+    """All race cases, each with the rows, none, that are asked for beside its saying."""
+    return [(case, ()) for case in all_race_cases(kernel)]
+
+
+def region_of(kernel, asked):
+    """The region of the sizes at which some of what is asked holds: pairs of a race case and a tuple of more rows."""
     lots = Lots(kernel)
     outlines = Outlines(kernel)
     known = {}
-    for case in all_race_cases(kernel):
-        key = outlines.key_of(case)
+    for case, more in asked:
+        key = outlines.key_of(case, more)
         if key not in known:
-            rows = base_rows(kernel, case) + cell_rows(kernel, case)
+            rows = base_rows(kernel, case) + cell_rows(kernel, case) + list(more)
             known[key] = lots.tiles_where(rows, parts_between(kernel, case))
         rests = point_cases(kernel, case[0][0])[case[0][1]][0][2]
         lots.take_in(rests, known[key])
@@ -243,13 +248,18 @@ def race_papers(kernel):
     """For each race case a tree that shows that its saying holds nowhere; None if there is a race."""
     if race_region(kernel):
         return None
+    return papers_of(kernel, plain_cases(kernel))
+
+
+def papers_of(kernel, asked):
+    """For each race case of what is asked, as by region_of, a tree that shows that it holds nowhere."""
     outlines = Outlines(kernel)
     known = {}
     found = {}
-    for case in all_race_cases(kernel):
-        key = outlines.key_of(case)
+    for case, more in asked:
+        key = outlines.key_of(case, more)
         if key not in known:
-            known[key] = tree_for([(saying_for(kernel, case), True)])
+            known[key] = tree_for([(saying_for(kernel, case, more), True)])
         found[case] = known[key]
     return found
 
@@ -257,11 +267,15 @@ def race_papers(kernel):
 def are_race_papers(kernel, thing):
     """Whether thing has for each race case a tree that shows that its saying holds nowhere."""
     check_kernel(kernel)
-    cases = all_race_cases(kernel)
-    if not has_just_keys(thing, cases):
+    return are_papers_of(kernel, plain_cases(kernel), thing)
+
+
+def are_papers_of(kernel, asked, thing):
+    """Whether thing has for each race case of what is asked a tree that shows that it holds nowhere."""
+    if not has_just_keys(thing, [case for case, _ in asked]):
         return False
-    for case in cases:
-        if not is_tree_for([(saying_for(kernel, case), True)], thing[case]):
+    for case, more in asked:
+        if not is_tree_for([(saying_for(kernel, case, more), True)], thing[case]):
             return False
     return True
 

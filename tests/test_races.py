@@ -210,7 +210,7 @@ class Cases(unittest.TestCase):
             outlines = Outlines(kernel)
             sayings = {}
             for case in race_cases(kernel)[:400]:
-                sayings.setdefault(outlines.key_of(case), set()).add(repr(race_saying(kernel, case)))
+                sayings.setdefault(outlines.key_of(case, ()), set()).add(repr(race_saying(kernel, case)))
             self.assertTrue(all(len(own) == 1 for own in sayings.values()), seed)
             told += len(sayings)
         self.assertGreater(told, 1000)
