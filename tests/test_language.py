@@ -300,6 +300,7 @@ class Language(unittest.TestCase):
                     parent = parents[node]
                     called = isinstance(parent, ast.Call) and parent.func is node
                     checked = isinstance(parent, (ast.Tuple, ast.Call, ast.ClassDef))
+                    checked = checked or isinstance(parent, ast.keyword) and (parent.arg, node.id) == ("key", "len")
                     self.assertTrue(called or checked, (name, node.lineno, node.id))
                 if isinstance(node, ast.Call) and isinstance(node.func, ast.Name) and node.func.id in BUILTINS:
                     for word in node.keywords:
