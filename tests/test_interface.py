@@ -27,6 +27,29 @@ FUNCTIONS = {
              "race(kernel) race_papers(kernel) are_race_papers(kernel,thing) race_region(kernel) verdict(kernel) "
              "verdict_at(kernel,sizes)",
     "orders": "two_orders(kernel,thing)",
+    "steps": "races_in_step(kernel,width,sizes) step_cases(kernel,width) race_in_step(kernel,width) "
+             "step_papers(kernel,width) are_step_papers(kernel,width,thing) right_widths(kernel)",
+    "hits": "least_hits(many,lots) hit_tree(many,lots,number) is_hit_tree(many,lots,number,thing)",
+    "needed": "bare(kernel) gaps_of(kernel) with_gaps(kernel,numbers) lots_of(kernel) fewest_meetings(kernel) "
+              "is_fewest(kernel,numbers,thing) needless_meetings(kernel) without_meeting(kernel,point)",
+    "edges": "beyond(kernel) beyond_papers(kernel) are_beyond_papers(kernel,thing) beyond_region(kernel) "
+             "farthest(kernel,array,axis,side) enough(region,a,b)",
+    "trimming": "sides(kernel,point) trimmed(kernel) shielded(kernel)",
+    "covers": "stray(kernel,points,window) double(kernel,points) missing_sayings(kernel,points,window) "
+              "missing(kernel,points,window) covered(kernel,points,window) cover_papers(kernel,points,window) "
+              "are_cover_papers(kernel,points,window,thing)",
+    "binomials": "poly_at(poly,values) poly_summed(poly,name,low,high)",
+    "told": "worth(told,values) points_for(system,names) unlike_at(one,other,system)",
+    "costs": "rows_at(kernel,width,sizes) issued_sums(kernel,width) idle_sums(kernel,width)",
+    "lines": "line_of(kernel,layout,span,cell) touches_at(kernel,width,sizes,layout,span)",
+    "traffic": "moved_sums(kernel,width,layout,span) needed_sums(kernel,layout,span) line_sums(kernel,layout,span) "
+               "again_region(kernel,width,layout,span) common_region(kernel,layout,span)",
+    "banks": "is_laying(counts,banks,thing) bank_of(counts,banks,laying,cell) lot_of(kernel,point,width,access) "
+             "lots(kernel,point,width) access_for(kernel,point,width,lot) cost(counts,banks,laying,lot) "
+             "clash(kernel,array,width,banks,laying) worst(kernel,array,width,banks,laying) "
+             "turns_taken(kernel,sizes,width,banks,layings) paddings(kernel,array,width,banks) "
+             "turnings(kernel,array,width,banks)",
+    "placings": "evenly(counts,banks,first,second)",
 }
 CLASSES = {
     ("kernels", "Kernel"): ("width,lanes,blocks,sizes,promises,arrays,body", "around(point) __eq__(other)"),
