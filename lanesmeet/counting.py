@@ -36,10 +36,10 @@ def bounds_above(zone, place):
 
 def bounds_below(zone, place):
     """The sharp bounds (place, number) of a place from below."""
-    bounds = [(i, -row[place]) for i, row in enumerate(zone) if row[place] is not None and i != place]
-    flipped = [[row[at] for row in zone] for at in range(len(zone))]
     # Turned about, with minus signs, what is the greatest from below is the least from above.
-    return [(i, -c) for i, c in sharp_bounds([(i, -c) for i, c in bounds], flipped)]
+    bounds = [(i, row[place]) for i, row in enumerate(zone) if row[place] is not None and i != place]
+    flipped = [[row[at] for row in zone] for at in range(len(zone))]
+    return [(other, -c) for other, c in sharp_bounds(bounds, flipped)]
 
 
 def least_rows(bounds, at):

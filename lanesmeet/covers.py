@@ -290,10 +290,8 @@ def cover_systems(kernel, points, window):
 def are_cover_papers(kernel, points, window, thing):
     """Whether thing shows, as cover_papers does, that the window is covered just once."""
     check_window(kernel, points, window)
-    if not is_tuple_of(thing, 3):
-        return False
     strays, doubles = cover_systems(kernel, points, window)
-    if not are_rings(strays, thing[0]) or not are_rings(doubles, thing[1]):
+    if not is_tuple_of(thing, 3) or not are_rings(strays, thing[0]) or not are_rings(doubles, thing[1]):
         return False
     lost = all_missing(kernel, points, window)
     if not has_just_keys(thing[2], list(lost)):

@@ -9,7 +9,7 @@ from lanesmeet.hits import first_hits, is_gap_tuple, is_tree_behind, new_tree
 from lanesmeet.kernels import check_kernel
 from lanesmeet.pairs import ahead, base_rows, first_stand, second_stand
 from lanesmeet.parted import MEETS, parting
-from lanesmeet.races import Outlines, cases_by_cell, cell_rows, do_cross, race_region
+from lanesmeet.races import cases_by_cell, cell_rows, do_cross, outlines_of, race_region
 from lanesmeet.rewriting import with_blocks, with_body
 from lanesmeet.seats import all_seats, check_bare, passed_saying, with_meetings
 from lanesmeet.ways import names_of, weighed
@@ -93,7 +93,7 @@ class Seeker:
 
     def seek(self):
         """Looks at all conflict cases, up to the first conflict with the lot ()."""
-        outlines = Outlines(self.kernel)
+        outlines = outlines_of(self.kernel)
         known = {}
         for case in conflict_cases(self.kernel):
             one, other, _ = case

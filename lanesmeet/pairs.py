@@ -117,28 +117,39 @@ def bound_turn(name):
     return name
 
 
-def meeting_saying(meeting, system, one, other):
-    """The saying that a meeting, whose loops and ifs the rows of system tell, stands between two steps."""
-    rows = [said((bound_turn(a), bound_turn(b), c)) for a, b, c in system]
+def said_meetings(kernel, point):
+    """For each case of a meeting the rows of its loops and ifs as sayings. They are kept with the kernel."""
+    key = ("said meetings", point)
+    if key not in kernel.held:
+        # In front of the rows of loops and ifs stand those of sizes, promises and blocks.
+        spare = len(kernel.sizes) + len(kernel.promises) + 4
+        systems = [system[spare:] for _, system in point_cases(kernel, point)]
+        kernel.held[key] = [[said((bound_turn(a), bound_turn(b), c)) for a, b, c in rows] for rows in systems]
+    return kernel.held[key]
+
+
+def order_saying(meeting, one, other):
+    """The saying that the step of a meeting is between two steps, whichever of them is ahead."""
     before = ("and", (ahead(one, meeting), ahead(meeting, other)))
     behind = ("and", (ahead(other, meeting), ahead(meeting, one)))
-    inner = ("and", tuple(rows + [("or", (before, behind))]))
-    names = meeting.turn_names()
-    return ("some", names, inner) if names else inner
+    return "or", (before, behind)
 
 
 def meeting_parts(kernel, one, first, other, second):
     """The sayings that no meeting stands between two instances of one block, told by points and choices."""
     stand = first_stand(kernel, one, first)
     mate = second_stand(kernel, other, second)
-    # In front of the rows of loops and ifs stand those of sizes, promises and blocks.
-    spare = len(kernel.sizes) + len(kernel.promises) + 4
     parts = []
     for point in points_of(kernel, ("meet",)):
-        for choice, system in point_cases(kernel, point):
+        orders = {}
+        for (choice, _), rows in zip(point_cases(kernel, point), said_meetings(kernel, point)):
             if choice[0] == first[0] and choice[2] == first[2]:
                 meeting = meeting_stand(kernel, point, choice)
-                parts.append(("not", meeting_saying(meeting, system[spare:], stand, mate)))
+                if choice[1] not in orders:
+                    orders[choice[1]] = order_saying(meeting, stand, mate)
+                inner = ("and", tuple(rows + [orders[choice[1]]]))
+                names = meeting.turn_names()
+                parts.append(("not", ("some", names, inner) if names else inner))
     return parts
 
 

@@ -169,13 +169,18 @@ def race_saying(kernel, case):
 
 
 class Outlines:
-    """Short keys for the sayings of race cases: many of these have one saying, which is looked at once."""
+    """Short keys for the sayings of race cases: many of these have one saying, which is looked at once.
+
+    zones and trees are what was told by keys already.
+    """
 
     def __init__(self, kernel):
         self.kernel = kernel
         self.numbers = {}
         self.systems = {}
         self.betweens = {}
+        self.zones = {}
+        self.trees = {}
 
     def number_for(self, thing):
         """A number that stands for a thing that is a key."""
@@ -207,6 +212,13 @@ class Outlines:
         return self.system_key(one), self.system_key(other), how, rows, self.between_key(case)
 
 
+def outlines_of(kernel):
+    """The outlines of a kernel's race cases. They are kept with the kernel."""
+    if "outlines" not in kernel.held:
+        kernel.held["outlines"] = Outlines(kernel)
+    return kernel.held["outlines"]
+
+
 def race_region(kernel):
     """The region of the sizes with a race."""
     check_kernel(kernel)
@@ -223,15 +235,14 @@ def plain_cases(kernel):
 def region_of(kernel, asked):
     """The region of the sizes at which some of what is asked holds: pairs of a race case and a tuple of more rows."""
     lots = Lots(kernel)
-    outlines = Outlines(kernel)
-    known = {}
+    outlines = outlines_of(kernel)
     for case, more in asked:
         key = outlines.key_of(case, more)
-        if key not in known:
+        if key not in outlines.zones:
             rows = base_rows(kernel, case) + cell_rows(kernel, case) + list(more)
-            known[key] = lots.tiles_where(rows, parts_between(kernel, case))
+            outlines.zones[key] = lots.tiles_where(rows, parts_between(kernel, case))
         rests = point_cases(kernel, case[0][0])[case[0][1]][0][2]
-        lots.take_in(rests, known[key])
+        lots.take_in(rests, outlines.zones[key])
     return lots.region()
 
 
@@ -253,14 +264,13 @@ def race_papers(kernel):
 
 def papers_of(kernel, asked):
     """For each race case of what is asked, as by region_of, a tree that shows that it holds nowhere."""
-    outlines = Outlines(kernel)
-    known = {}
+    outlines = outlines_of(kernel)
     found = {}
     for case, more in asked:
         key = outlines.key_of(case, more)
-        if key not in known:
-            known[key] = tree_for([(saying_for(kernel, case, more), True)])
-        found[case] = known[key]
+        if key not in outlines.trees:
+            outlines.trees[key] = tree_for([(saying_for(kernel, case, more), True)])
+        found[case] = outlines.trees[key]
     return found
 
 

@@ -3,11 +3,11 @@
 from lanesmeet.binomials import check_values
 from lanesmeet.counting import Tally, counted
 from lanesmeet.differences import check_system, is_point_of, is_system
-from lanesmeet.errors import BadNames, BadSum, NotBounded
+from lanesmeet.errors import BadNames, BadSum, NotBounded, TooMany
 from lanesmeet.fields import places_of, zone_by
 from lanesmeet.unlike import first_unlike
 from lanesmeet.plain import is_listing, is_rising, is_tuple_of
-from lanesmeet.polys import is_poly, poly_names, worth_of
+from lanesmeet.polys import MOST_OVER, greatest_over, is_poly, poly_names, worth_of
 from lanesmeet.ways import names_of
 
 
@@ -76,6 +76,9 @@ def points_for(system, names):
     check_bounded(zone, names, others)
     tally = Tally()
     for piece, spots, poly in counted(zone, others + list(names), others):
+        # A poly has no k above 12, which so many names can come to.
+        if greatest_over(poly) > MOST_OVER:
+            raise TooMany(MOST_OVER)
         tally.take_in(piece, spots[1:], poly, 1)
     return tally.sum_told()
 

@@ -121,7 +121,7 @@ class Layings(unittest.TestCase):
                     call()
         for laying in (None, 5, (), ("padded",), ("padded", 32), ("padded", -1), ("padded", True), ["padded", 1], ("turned", 32),
                        ("turned", None), ("listed", ()), ("listed", [0] * 6), ("listed", (0,) * 5), ("listed", (0,) * 7),
-                       ("listed", (0,) * 5 + (3,)), ("listed", (0,) * 5 + (-1,)), ("listed", (0,) * 5 + (True,)), ("other", 1),
+                       ("listed", (0,) * 5 + (3,)), ("listed", (0,) * 5 + (-1,)), ("listed", (0,) * 5 + (True,)), ("other", 1), ("other", (0,) * 6),
                        (None, 1), ("padded", 1, 1), (["padded"], 1)):
             self.assertIs(is_laying((2, 3), 3, laying), False, laying)
             for call in (lambda: bank_of((2, 3), 3, laying, None), lambda: cost((2, 3), 3, laying, None)):

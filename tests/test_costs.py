@@ -79,6 +79,15 @@ class Rows(unittest.TestCase):
             with self.assertRaises(BadWidth):
                 call(many, 5)
 
+    def test_too_many_together(self):
+        body = (("meet",), ("meet",), ("meet",))
+        for name in "klm":
+            body = (("short", name, 8, body),)
+        many = kernel_of(body, lanes=(2, 8), sizes=(("n", (0,)),))
+        for call in (issued_sums, idle_sums):
+            with self.assertRaises(TooMany):
+                call(many, 4)
+
     def test_by_hand(self):
         low = ("small", LANE, "less", ("is", 3))
         kernel = kernel_of((LET, ("take", "x", ("a", ((BLOCK, LANE),))), ("if", low, (("put", ("s", (LANE,)), "x"),), ()), ("meet",)))

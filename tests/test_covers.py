@@ -7,7 +7,8 @@ import unittest
 import places
 import runs
 import samples
-from lanesmeet.covers import are_cover_papers, cover_papers, covered, double, missing, missing_sayings, stray
+from lanesmeet.covers import (
+    are_cover_papers, cover_papers, covered, double, double_cases, missing, missing_sayings, stray)
 from lanesmeet.differences import least_point, ring
 from lanesmeet.errors import BadKernel, BadPoints, BadWindow, TooMany
 from lanesmeet.kernels import Kernel
@@ -180,6 +181,11 @@ class Errors(unittest.TestCase):
             with self.assertRaises(TooMany) as caught:
                 call()
             self.assertEqual(caught.exception.most, 20000)
+        body = (("put", ("a", ((BLOCK, LANE),)), "x"), ("put", ("a", ((BLOCK, LANE),)), "x"))
+        for name in "klm":
+            body = (("short", name, 8, body),)
+        with self.assertRaises(TooMany):
+            stray(kernel_of((LET,) + body, lanes=(2, 8), sizes=(("n", (0,)),)), (4, 5), WHOLE)
         few = kernel_of((LET, ("short", "k", 8, (("short", "l", 8, (("put", ("a", ((BLOCK, ("is", 0)),)), "x"),)),))), lanes=(1, 4))
         with self.assertRaises(TooMany):
             double(few, (3,))
@@ -262,6 +268,7 @@ class GoneThrough(unittest.TestCase):
     def test_doubles(self):
         told = [0, 0]
         for kernel, points, _ in all_made(150):
+            self.assertEqual(double_cases(kernel, points), told_doubles(kernel, points))
             first = next((case for case in told_doubles(kernel, points) if ring(case[4]) is None), None)
             found = double(kernel, points)
             told[found is None] += 1

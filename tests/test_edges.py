@@ -71,6 +71,15 @@ class Beyond(unittest.TestCase):
                 call()
             self.assertEqual(caught.exception.most, 20000)
 
+    def test_too_many_of_all_points_together(self):
+        body = (("put", ("a", ((BLOCK, LANE),)), "x"), ("take", "x", ("a", ((BLOCK, LANE),))))
+        for name in "klm":
+            body = (("short", name, 8, body),)
+        many = kernel_of(lanes=(2, 8), sizes=(("n", (0,)),), body=(LET,) + body)
+        for call in (beyond, beyond_papers, beyond_region, lambda one: are_beyond_papers(one, {})):
+            with self.assertRaises(TooMany):
+                call(many)
+
     def test_example(self):
         kernel = kernel_of()
         self.assertEqual(beyond(kernel), ({"n": (0, 0)}, (1, B, B, ())))

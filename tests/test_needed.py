@@ -11,7 +11,7 @@ from lanesmeet.errors import BadBare, BadGaps, BadKernel, BadPoint, Fixed, NotOn
 from lanesmeet.hits import hit_tree, is_hit_tree, least_hits
 from lanesmeet.kernels import Kernel
 from lanesmeet.needed import (
-    bare, fewest_meetings, gaps_of, is_fewest, lots_of, needless_meetings, with_gaps, without_meeting)
+    Seeker, bare, fewest_meetings, gaps_of, is_fewest, lots_of, needless_meetings, with_gaps, without_meeting)
 from lanesmeet.parted import parting
 from lanesmeet.races import race, races_at
 
@@ -327,6 +327,23 @@ class Lots(unittest.TestCase):
         # No gap stands within a short loop, but for one around it there is one.
         short = ("short", "k", 2, (("put", ("s", (("rest of", ("plus", LANE, ("turn", "k")), 2),)), "w"),))
         self.assertEqual(lots_of(kernel_of((LET, short)))[0], "fixed")
+
+    def test_behind_the_first_statement(self):
+        take = ("take", "x", ("a", ((BLOCK, ("minus", ("is", 1), LANE)),)))
+        kernel = kernel_of((take, ("put", ("a", ((BLOCK, LANE),)), "x")))
+        self.assertEqual((gaps_of(kernel), lots_of(kernel)), ([((), 1)], ("lots", ((0,),))))
+        self.assertEqual(fewest_meetings(kernel)[1:], ((0,), ("end", 0)))
+
+    def test_what_is_parted_is_counted(self):
+        seeker = Seeker(example_kernel())
+        seeker.parts = 20000
+        with self.assertRaises(TooMany) as caught:
+            seeker.seek()
+        self.assertEqual(caught.exception.most, 20000)
+        seeker = Seeker(example_kernel())
+        seeker.seek()
+        # Of one sort of conflicts and its contrary just one is told, by one gap behind the other.
+        self.assertTrue(3 <= seeker.parts <= 20)
 
     def test_loops(self):
         # In turn t lane l puts where in turn t + 1 the other lane takes: ahead of the take, or behind the put.

@@ -182,6 +182,16 @@ class Steps(unittest.TestCase):
             self.assertTrue(is_tree([(told_saying(kernel, 2, case), True)], tree))
         self.assertFalse(all(is_tree([(race_saying(kernel, case), True)], papers[case]) for case in papers))
 
+    def test_turns_are_equal_both_ways(self):
+        # Here lane 1 puts in turn t + 1 where lane 0 puts in turn t.
+        small = ("times", ("minus", ("is", 1), LANE), ("is", 2))
+        loop = ("long", "t", ("none", None, 0), ("tiles", "n", 0), (("put", ("a", ((("turn", "t", 0), small),)), "w"),))
+        kernel = turn_kernel(width=2, lanes=(1, 2), sizes=(("n", (0,)),), arrays=(("far", "a", ("n",)),),
+                             body=(("let", "w", "f", ()), loop))
+        self.assertEqual(race_in_step(kernel, 1), ({"n": (2, 0)}, (2, B, (0, 0), (0,)), (2, B, (0, 1), (1,))))
+        self.assertEqual(right_widths(kernel), [2])
+        self.assertIs(are_step_papers(kernel, 2, step_papers(kernel, 2)), True)
+
     def test_short_turns_of_one_crew(self):
         # The short turns of one crew's lanes are led if they are unlike.
         cell = ("s", (("plus", LANE, ("turn", "k")),))

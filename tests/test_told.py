@@ -3,6 +3,7 @@
 import itertools
 import random
 import unittest
+import unittest.mock
 
 import samples
 from lanesmeet.binomials import poly_at
@@ -159,6 +160,29 @@ class Points(unittest.TestCase):
             reach[way] = seen & (set(others) | {None})
         return bool(reach[0]) and bool(reach[1])
 
+    def test_too_many(self):
+        # Which of both is the greatest, and which the least, is told piece by piece.
+        system = [("x", "a", 0), ("x", "b", 0), ("c", "x", 0), ("d", "x", 0)]
+        self.assertEqual(worth(points_for(system, ("x",)), {"a": 5, "b": 7, "c": 1, "d": 2}), 4)
+        for most in (3, 4):
+            with unittest.mock.patch("lanesmeet.cases.MOST_CASES", most):
+                if most == 4:
+                    self.assertEqual(len(points_for(system, ("x",))), 4)
+                    continue
+                with self.assertRaises(TooMany):
+                    points_for(system, ("x",))
+
+    def test_too_many_names(self):
+        # So many numbers one behind the other, below n: n + 11 over 12, and n + 12 over 13.
+        names = tuple(sorted("x" + letter for letter in "abcdefghijklm"))
+        rows = [(None, names[0], 0)] + [(one, other, 0) for one, other in zip(names, names[1:])]
+        told = points_for(rows[:-1] + [(names[11], "n", -1)], names[:12])
+        self.assertEqual([worth(told, {"n": n}) for n in (0, 1, 2, 3)], [0, 1, 13, 91])
+        with self.assertRaises(TooMany) as caught:
+            points_for(rows + [(names[12], "n", -1)], names)
+        self.assertEqual(caught.exception.most, 12)
+        self.assertEqual(worth(points_for(rows + [(names[12], None, 0)], names), {}), 1)
+
     def test_results_are_new(self):
         system = [("a", None, 3), (None, "a", 0), ("b", "a", 0), (None, "b", 0)]
         before = list(system)
@@ -171,8 +195,9 @@ class Points(unittest.TestCase):
 class Unlike(unittest.TestCase):
     def test_errors_in_order(self):
         for told in BAD_SUMS:
-            with self.assertRaises(BadSum):
-                unlike_at(told, None, None)
+            for other in (None, []):
+                with self.assertRaises(BadSum):
+                    unlike_at(told, other, [])
             with self.assertRaises(BadSum):
                 unlike_at([], told, None)
         for system in BAD_SYSTEMS:

@@ -164,6 +164,16 @@ class Errors(unittest.TestCase):
         with self.assertRaises(BadPoint):
             sides(many, 5)
 
+    def test_too_many_together(self):
+        body = (("if", ("within", (BLOCK, LANE), "n"), (), ()), ("put", ("a", ((BLOCK, LANE),)), "x"), ("meet",))
+        for name in "klm":
+            body = (("short", name, 8, body),)
+        many = kernel_of((LET,) + body, lanes=(2, 8), sizes=(("n", (0,)),))
+        # On the side 0 there are 8192 cases, on the side 1 twice as many.
+        for call in (lambda: sides(many, 4), lambda: trimmed(many), lambda: shielded(many)):
+            with self.assertRaises(TooMany):
+                call()
+
     def test_bad_bodies(self):
         gone = kernel_of((("if", NEVER, (("take", "y", ("a", ((BLOCK, LANE),))),), ()), LET, ("put", ("a", ((BLOCK, LANE),)), "y")))
         with self.assertRaises(BadBody) as caught:
