@@ -7,7 +7,7 @@ of the points of the zone that the poly tells how often each is to be counted.
 from lanesmeet.cases import check_many
 from lanesmeet.cuts import named_rows
 from lanesmeet.fields import narrowed
-from lanesmeet.polys import plus, summed
+from lanesmeet.polys import ordered, plus, summed
 from lanesmeet.zones import tightened_by
 
 
@@ -115,4 +115,4 @@ class Tally:
 
     def sum_told(self):
         """The told sum."""
-        return [(list(rows), self.polys[rows]) for rows in self.polys if self.polys[rows]]
+        return [(list(rows), ordered(self.polys[rows])) for rows in self.polys if self.polys[rows]]
