@@ -399,25 +399,36 @@ class Language(unittest.TestCase):
 
     def test_operators_change_only_what_they_made(self):
         functions = {}
+        methods = {}
+        origins = {}
         for name, tree, _ in self.each():
-            for node in ast.walk(tree):
+            for node in tree.body:
                 if isinstance(node, ast.FunctionDef):
-                    functions.setdefault(node.name, []).append((name, node))
-        todo = [word for word in SPECIAL if word != "__init__"] + ["rank", "check_told", "check_sizes", "lot_of"]
+                    functions[(name, node.name)] = node
+                if isinstance(node, ast.ImportFrom):
+                    for alias in node.names:
+                        origins[(name, alias.name)] = node.module.split(".")[-1] + ".py"
+                if isinstance(node, ast.ClassDef):
+                    for item in node.body:
+                        if isinstance(item, ast.FunctionDef):
+                            methods.setdefault(item.name, []).append((name, item))
+        todo = [pair for word in SPECIAL if word != "__init__" for pair in methods.get(word, [])]
+        todo += [pair for pair in methods["__init__"] if pair[0] == "regions.py"]
         seen = set()
         while todo:
-            word = todo.pop()
-            if word in seen:
+            name, node = todo.pop()
+            if (name, node) in seen:
                 continue
-            seen.add(word)
-            for name, node in functions.get(word, []):
+            seen.add((name, node))
+            if node.name != "__init__":
                 self.changes_own_only(name, node)
-                for part in ast.walk(node):
-                    if isinstance(part, ast.Call) and isinstance(part.func, ast.Name):
-                        todo.append(part.func.id)
-                    if isinstance(part, ast.Call) and isinstance(part.func, ast.Attribute):
-                        todo.append(part.func.attr)
-        self.assertIn("cut", seen)
+            for part in ast.walk(node):
+                if isinstance(part, ast.Call) and isinstance(part.func, ast.Name):
+                    key = (origins.get((name, part.func.id), name), part.func.id)
+                    todo += [(key[0], functions[key])] if key in functions else []
+                if isinstance(part, ast.Call) and isinstance(part.func, ast.Attribute):
+                    todo += methods.get(part.func.attr, [])
+        self.assertIn("cut", [node.name for _, node in seen])
 
     def changes_own_only(self, name, node):
         fresh = {}
