@@ -1,6 +1,6 @@
 """The judge: whether one kernel tells, by a map, the story of another one at all sizes, behind every order."""
 
-from lanesmeet.cases import MOST_CASES, check_many
+from lanesmeet.cases import MOST_CASES
 from lanesmeet.cuts import zones_of
 from lanesmeet.errors import NotOne, TooMany
 from lanesmeet.finding import first_instance, second_instance, sizes_of
@@ -35,9 +35,7 @@ def docket_for(one, other, chart):
     check_map(one, other, chart)
     check_one(one, other)
     docket = Docket(one, other, chart)
-    asked = {word: docket.keys_for(word) for word in WORDS}
-    check_many(sum([len(asked[word]) for word in WORDS]))
-    return docket, asked
+    return docket, {word: docket.keys_for(word) for word in WORDS}
 
 
 def judge_sayings(one, other, chart):

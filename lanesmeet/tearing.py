@@ -7,6 +7,7 @@ from lanesmeet.images import Shade, shade_ahead, spare_rows
 from lanesmeet.nests import piece_names, piece_points
 from lanesmeet.pairs import NEVER, ahead, first_stand, second_stand
 from lanesmeet.races import all_reached, do_cross
+from lanesmeet.ways import weighed
 
 
 class Deed:
@@ -22,6 +23,7 @@ class Deed:
         self.offsets = offsets
         self.lane = lane
         self.shorts = shorts
+        self.system = 0
 
 
 class Ledger:
@@ -99,22 +101,20 @@ class Ledger:
         return found
 
     def by_cells(self):
-        """The deeds that come to each cell, told by rests, array and offsets, by points."""
+        """The deeds that come to each cell, told by rests, array and offsets, by points; without those never there."""
         found = {}
+        systems = {}
+        live = {}
         for point in self.names:
             cells = all_reached(self.woven.cut, self.woven.cut_points[point])
             for deed in self.deeds_at(point):
-                key = (deed.choice[2],) + cells[deed.number][:2]
-                found.setdefault(key, {}).setdefault(point, []).append(deed)
-        return found
-
-    def pairs_at(self, lots):
-        """All pairs of deeds of lots, by points, that may cross."""
-        found = []
-        for one in lots:
-            for other in lots:
-                if self.can_tear(one, other):
-                    found.extend([(first, second) for first in lots[one] for second in lots[other]])
+                rows = tuple(self.bare_rows(point, deed.number))
+                deed.system = systems.setdefault(rows, len(systems))
+                if deed.system not in live:
+                    live[deed.system] = weighed(rows, {})[0] is not None
+                if live[deed.system]:
+                    key = (deed.choice[2],) + cells[deed.number][:2]
+                    found.setdefault(key, {}).setdefault(point, []).append(deed)
         return found
 
     def can_tear(self, one, other):
@@ -151,26 +151,36 @@ class Ledger:
         """All tuples (deed, deed, rows, saying) that tell of torn deeds; of those that are told alike just one."""
         found = []
         known = {}
-        count = 0
         lots = self.by_cells()
         for key in lots:
-            pairs = self.pairs_at(lots[key])
-            count = count + len(pairs)
-            check_many(count)
-            for first, second in pairs:
-                rows = self.pair_rows(first, second)
-                if rows is not None:
-                    mark = self.pair_key(first, second, rows)
-                    if mark not in known:
-                        known[mark] = True
-                        found.append((first, second, rows, self.torn_saying(first, second)))
-        return [told for told in found if told[3] != NEVER]
+            own = lots[key]
+            pairs = [(one, other) for one in own for other in own if self.can_tear(one, other)]
+            for one, other in pairs:
+                for first in own[one]:
+                    for second in own[other]:
+                        mark = self.pair_key(first, second)
+                        if mark not in known:
+                            known[mark] = True
+                            self.add_torn(first, second, found)
+                check_many(len(known))
+        return found
 
-    def pair_key(self, first, second, rows):
-        """What stands for all that is told of two deeds."""
+    def add_torn(self, first, second, found):
+        """Adds what is told of two deeds, unless they are surely never torn."""
+        rows = self.pair_rows(first, second)
+        if rows is not None:
+            saying = self.torn_saying(first, second)
+            if saying != NEVER:
+                found.append((first, second, rows, saying))
+
+    def pair_key(self, first, second):
+        """What stands for all that is told of two deeds at cells with the same offsets."""
+        cells = all_reached(self.woven.cut, self.woven.cut_points[first.point])[first.number][2]
+        later = all_reached(self.woven.cut, self.woven.cut_points[second.point])[second.number][2]
         signs = tuple([sign_of(one, other) for one, other in zip(first.choice[1], second.choice[1])])
         marks = tuple([sign_of(one, other) for one, other in zip(first.shorts, second.shorts)])
-        return first.point, second.point, first.choice[2], tuple(rows), signs, marks, first.lane == second.lane
+        return (first.point, second.point, first.choice[2], first.system, second.system, cells, later, signs, marks,
+                first.lane == second.lane)
 
     def sizes_by(self, rests, numbers):
         """The sizes of the nest that rests and tiles tell."""
