@@ -1,7 +1,9 @@
 """Sayings put together so that what surely holds, or surely does not, is left out."""
 
-from lanesmeet.pairs import ALWAYS, NEVER
 from lanesmeet.wording import with_terms
+
+ALWAYS = ("and", ())
+NEVER = ("or", ())
 
 
 def all_of(parts):
@@ -57,3 +59,25 @@ def bound(names, saying):
     for first in range(0, len(names), 4):
         saying = ("some", tuple(names[first:first + 4]), saying)
     return saying
+
+
+def simple(saying):
+    """A saying that holds where this one does, without parts that surely hold, surely do not, or come twice."""
+    word = saying[0]
+    if word == "row":
+        return saying
+    if word == "not":
+        return none_of(simple(saying[1]))
+    if word in ("some", "all"):
+        inner = simple(saying[2])
+        return inner if inner in (ALWAYS, NEVER) else (word, saying[1], inner)
+    parts = distinct([simple(part) for part in saying[1]])
+    return all_of(parts) if word == "and" else some_of(parts)
+
+
+def distinct(parts):
+    """The parts, of equal ones the first."""
+    found = {}
+    for part in parts:
+        found.setdefault(repr(part), part)
+    return list(found.values())

@@ -4,12 +4,12 @@ from lanesmeet.cases import check_many, loop_rows, point_cases
 from lanesmeet.cuts import cut
 from lanesmeet.errors import Missed, TooMany, Torn
 from lanesmeet.fields import places_of, zone_by
-from lanesmeet.folding import all_of, bound, some_of
+from lanesmeet.folding import all_of, bound, simple, some_of
 from lanesmeet.hits import MOST_GAPS, first_hits, new_tree
 from lanesmeet.making import is_mark, woven_for
 from lanesmeet.needed import is_in
 from lanesmeet.nests import items_of
-from lanesmeet.pairs import Stand, base_rows, bound_turn, first_stand, order_saying, parts_between, second_stand
+from lanesmeet.pairs import Stand, base_rows, bound_turn, first_stand, order_saying, second_stand, short_signs
 from lanesmeet.plans import Plan
 from lanesmeet.races import all_race_cases, cell_rows, outlines_of
 from lanesmeet.regions import rank
@@ -28,36 +28,48 @@ def all_gaps(nest):
 
 
 class Opening:
-    """A gap in a kernel that is made: the loops around a meeting there, and the statements ahead of it."""
+    """A gap in a kernel that is made: the loops around a meeting there, and the statements ahead of it.
+
+    parts has for points of two deeds, and how short turns stand to theirs, the saying that a meeting is between.
+    """
 
     def __init__(self, loops, ahead_of_it):
         self.loops = loops
         self.ahead_of_it = ahead_of_it
+        self.parts = {}
 
-    def stands(self, kernel):
-        """The steps of a meeting there, one for each turns of the short loops."""
-        found = [{}]
-        for sort, name, point in self.loops:
+    def loop_names(self, wanted):
+        """The names of its loops of a sort, the outermost first."""
+        return [name for sort, name, _ in self.loops if sort == wanted]
+
+    def all_shorts(self, kernel):
+        """The turns of its short loops, all tuples of them."""
+        found = [()]
+        for sort, _, point in self.loops:
             if sort == "short":
                 count = kernel.statements[point][2]
-                found = [with_turn(shorts, name, turn) for shorts in found for turn in range(count)]
-        return [Stand(self.loops, 2 * self.ahead_of_it, shorts, "Turn ", "") for shorts in found]
+                found = [turns + (turn,) for turns in found for turn in range(count)]
+        return found
 
-    def passed(self, kernel, one, other):
-        """The saying that a meeting there stands between two steps."""
+    def passed(self, kernel, pair, stand, mate):
+        """The saying that a meeting there stands between two steps, the deeds being at a pair of points."""
+        names = self.loop_names("short")
+        found = {}
+        for turns in self.all_shorts(kernel):
+            signs = short_signs(names, turns, stand, mate)
+            if signs not in found:
+                if (pair, signs) not in self.parts:
+                    meeting = Stand(self.loops, 2 * self.ahead_of_it, dict(zip(names, turns)), "Turn ", "")
+                    self.parts[(pair, signs)] = self.passed_by(kernel, meeting, stand, mate)
+                found[signs] = self.parts[(pair, signs)]
+        return some_of(list(found.values()))
+
+    def passed_by(self, kernel, meeting, stand, mate):
+        """The saying that a meeting of some turn of its long loops stands between two steps."""
         rows = [row for sort, _, point in self.loops if sort == "long" for row in loop_rows(kernel.statements[point])]
         own = [said((bound_turn(a), bound_turn(b), c)) for a, b, c in rows]
-        found = []
-        for stand in self.stands(kernel):
-            found.append(bound(list(stand.turn_names()), all_of(own + [order_saying(stand, one, other)])))
-        return some_of(found)
-
-
-def with_turn(shorts, name, turn):
-    """The turns of short loops, and that of one more."""
-    found = {other: shorts[other] for other in shorts}
-    found[name] = turn
-    return found
+        order = simple(order_saying(meeting, stand, mate))
+        return bound(list(meeting.turn_names()), all_of(own + [order]))
 
 
 def openings_of(nest, woven):
@@ -78,39 +90,53 @@ def openings_of(nest, woven):
 
 
 class Sifter:
-    """The search for the lots of gaps that races pass, within which no other one lies."""
+    """The search for the lots of gaps that races pass, within which no other one lies.
+
+    passings has for points and short turns of two deeds a number, and the sayings that each gap is passed.
+    """
 
     def __init__(self, kernel, openings):
         self.kernel = kernel
         self.openings = openings
+        self.outlines = outlines_of(kernel)
+        self.passings = {}
         self.lots = []
         self.parts = 0
 
     def sift(self):
         """Looks at all race cases, those that are told alike once."""
-        outlines = outlines_of(self.kernel)
         known = {}
         for case in all_race_cases(self.kernel):
-            one, other, _ = case
-            first = point_cases(self.kernel, one[0])[one[1]][0]
-            second = point_cases(self.kernel, other[0])[other[1]][0]
-            key = outlines.key_of(case, ()), one[0], first[1], other[0], second[1]
+            if self.outlines.is_empty(case, ()):
+                continue
+            number, beside = self.outlines.firm_between(case)
+            mark, sayings = self.passings_for(case)
+            key = self.outlines.base_key(case, ()) + (number, mark)
             if key not in known:
                 known[key] = True
-                self.look_at_race(case, first, second)
+                self.look_at_race(case, beside, sayings)
 
-    def look_at_race(self, case, first, second):
-        """Finds the lots of a race case with these choices."""
+    def passings_for(self, case):
+        """A pair: what stands for the sayings that each gap is passed between the deeds of a race case, and these."""
+        (one, number), (other, index), _ = case
+        first = point_cases(self.kernel, one)[number][0]
+        second = point_cases(self.kernel, other)[index][0]
+        key = one, first[1], other, second[1]
+        if key not in self.passings:
+            stand = first_stand(self.kernel, one, first)
+            mate = second_stand(self.kernel, other, second)
+            sayings = [opening.passed(self.kernel, (one, other), stand, mate) for opening in self.openings]
+            self.passings[key] = self.outlines.number_for(repr(sayings)), sayings
+        return self.passings[key]
+
+    def look_at_race(self, case, beside, sayings):
+        """Finds the lots of a race case, with sayings that it is side by side and that gaps are passed."""
         rows = base_rows(self.kernel, case) + cell_rows(self.kernel, case)
-        beside = parts_between(self.kernel, case)
-        stand = first_stand(self.kernel, case[0][0], first)
-        mate = second_stand(self.kernel, case[1][0], second)
-        sayings = [opening.passed(self.kernel, stand, mate) for opening in self.openings]
-        names = [name for saying in sayings + beside for name in bound_in(saying)]
+        names = ["Turn " + name for opening in self.openings for name in opening.loop_names("long")]
+        names = names + [name for saying in beside for name in bound_in(saying)]
         places = places_of(names_of(rows) + sorted(set(names)))
-        zone = zone_by(rows, places)
-        if zone is not None:
-            self.sift_zones(cut(zone, ("and", tuple(beside)), True, places), sayings, places, 0, ())
+        zones = cut(zone_by(rows, places), ("and", tuple(beside)), True, places)
+        self.sift_zones(zones, sayings, places, 0, ())
 
     def sift_zones(self, zones, sayings, places, at, passed):
         """Parts the zones gap after gap from at on, passed being those that were passed."""

@@ -4,9 +4,9 @@ from lanesmeet.cases import MOST_CASES
 from lanesmeet.cuts import zones_of
 from lanesmeet.errors import NotOne, TooMany
 from lanesmeet.finding import first_instance, second_instance, sizes_of
+from lanesmeet.folding import NEVER
 from lanesmeet.maps import check_map
 from lanesmeet.needed import never_races
-from lanesmeet.pairs import NEVER
 from lanesmeet.papers import is_tree_for
 from lanesmeet.plain import has_just_keys, is_listing
 from lanesmeet.prover import tree_for

@@ -1,12 +1,11 @@
 """Pair cases: two instances told for all sizes, and the saying that they are side by side."""
 
 from lanesmeet.cases import DEEDS, MARK, is_point_of, marked_rows, point_cases, points_of, short_loops
+from lanesmeet.folding import ALWAYS, NEVER, bound, none_of, simple
 from lanesmeet.plain import is_number_tuple, is_tuple_of
 from lanesmeet.wording import said
 
 HOWS = ("same", "less 0", "more 0", "less 1", "more 1")
-ALWAYS = ("and", ())
-NEVER = ("or", ())
 
 
 class Stand:
@@ -151,6 +150,75 @@ def meeting_parts(kernel, one, first, other, second):
                 names = meeting.turn_names()
                 parts.append(("not", ("some", names, inner) if names else inner))
     return parts
+
+
+def first_alike(kernel, point):
+    """For each case of a meeting the index of the first one with equal rows. They are kept with the kernel."""
+    key = ("first alike", point)
+    if key not in kernel.held:
+        known = {}
+        texts = [repr(rows) for rows in said_meetings(kernel, point)]
+        kernel.held[key] = [known.setdefault(text, at) for at, text in enumerate(texts)]
+    return kernel.held[key]
+
+
+def meeting_lot(kernel, lane, rests):
+    """All meetings that a lane comes to with these rests: (point, short turns, index of a case with its rows)."""
+    key = ("meeting lot", lane, rests)
+    if key not in kernel.held:
+        found = []
+        for point in points_of(kernel, ("meet",)):
+            alike = first_alike(kernel, point)
+            for at, (choice, _) in enumerate(point_cases(kernel, point)):
+                if choice[0] == lane and choice[2] == rests:
+                    found.append((point, choice[1], alike[at]))
+        kernel.held[key] = tuple(found)
+    return kernel.held[key]
+
+
+def sign_of(one, other):
+    """-1 if the first number is less, 1 if it is greater, 0 if both are equal."""
+    if one == other:
+        return 0
+    return -1 if one < other else 1
+
+
+def short_signs(names, turns, one, other):
+    """How the turns of a meeting's short loops stand to those of two steps: all that its order hangs on besides."""
+    found = []
+    for name, turn in zip(names, turns):
+        for step in (one, other):
+            found.append(sign_of(turn, step.shorts.get(name, turn)))
+    return tuple(found)
+
+
+def firm_part(kernel, told, stand, mate):
+    """As a part of parts_between, but simpler; of the meeting that is told, as by meeting_lot."""
+    point, turns, at = told
+    choice = point_cases(kernel, point)[at][0]
+    meeting = meeting_stand(kernel, point, (choice[0], turns))
+    order = simple(order_saying(meeting, stand, mate))
+    inner = simple(("and", tuple(said_meetings(kernel, point)[at] + [order])))
+    return none_of(bound(list(meeting.turn_names()), inner))
+
+
+def firm_parts(kernel, one, first, other, second):
+    """As meeting_parts, but simpler sayings that hold together where those do."""
+    lot = meeting_lot(kernel, first[0], first[2])
+    key = ("firm parts", lot, one, first[1], other, second[1])
+    if key not in kernel.held:
+        stand = first_stand(kernel, one, first)
+        mate = second_stand(kernel, other, second)
+        known = {}
+        for told in lot:
+            signs = short_signs(short_loops(kernel, told[0]), told[1], stand, mate)
+            mark = ("firm part", told[0], told[2], one, other, signs)
+            if mark not in known:
+                if mark not in kernel.held:
+                    kernel.held[mark] = firm_part(kernel, told, stand, mate)
+                known[mark] = kernel.held[mark]
+        kernel.held[key] = [part for part in known.values() if part != ALWAYS]
+    return kernel.held[key]
 
 
 def parts_between(kernel, case):

@@ -7,13 +7,14 @@ from lanesmeet.forms import are_sizes_at, place_of
 from lanesmeet.kernels import check_kernel
 from lanesmeet.machine import all_lists
 from lanesmeet.meaning import is_there_as
-from lanesmeet.pairs import HOWS, base_rows, beside_saying, is_pair_case, parts_between
+from lanesmeet.pairs import HOWS, base_rows, beside_saying, firm_parts, is_pair_case, parts_between
 from lanesmeet.papers import is_tree_for
 from lanesmeet.parted import parted_region
 from lanesmeet.plain import has_just_keys, is_tuple_of
 from lanesmeet.prover import tree_for
 from lanesmeet.regions import all_sizes
 from lanesmeet.sizing import Lots
+from lanesmeet.ways import weighed
 from lanesmeet.wording import said
 
 
@@ -179,6 +180,8 @@ class Outlines:
         self.numbers = {}
         self.systems = {}
         self.betweens = {}
+        self.empty = {}
+        self.firm = {}
         self.zones = {}
         self.trees = {}
 
@@ -205,11 +208,35 @@ class Outlines:
             self.betweens[key] = self.number_for(repr(parts_between(self.kernel, case)))
         return self.betweens[key]
 
+    def base_key(self, case, more):
+        """What stands for the rows of a race case with more rows."""
+        one, other, how = case
+        return self.system_key(one), self.system_key(other), how, tuple(cell_rows(self.kernel, case)) + more
+
+    def is_empty(self, case, more):
+        """Whether no numbers keep the rows of a race case with more rows."""
+        key = self.base_key(case, more)
+        if key not in self.empty:
+            rows = base_rows(self.kernel, case) + cell_rows(self.kernel, case) + list(more)
+            self.empty[key] = weighed(rows, {})[0] is None
+        return self.empty[key]
+
+    def firm_between(self, case):
+        """A pair: what stands for the simpler sayings about meetings of a race case, and these."""
+        one, other, how = case
+        if how != "same":
+            return 0, []
+        first = point_cases(self.kernel, one[0])[one[1]][0]
+        second = point_cases(self.kernel, other[0])[other[1]][0]
+        key = one[0], first[0], first[1], first[2], other[0], second[1]
+        if key not in self.firm:
+            parts = firm_parts(self.kernel, one[0], first, other[0], second)
+            self.firm[key] = self.number_for(repr(parts)), parts
+        return self.firm[key]
+
     def key_of(self, case, more):
         """What stands for the saying of a race case with more rows: equal for two exactly if their sayings are."""
-        one, other, how = case
-        rows = tuple(cell_rows(self.kernel, case)) + more
-        return self.system_key(one), self.system_key(other), how, rows, self.between_key(case)
+        return self.base_key(case, more) + (self.between_key(case),)
 
 
 def outlines_of(kernel):
@@ -237,10 +264,13 @@ def region_of(kernel, asked):
     lots = Lots(kernel)
     outlines = outlines_of(kernel)
     for case, more in asked:
-        key = outlines.key_of(case, more)
+        if outlines.is_empty(case, more):
+            continue
+        number, parts = outlines.firm_between(case)
+        key = outlines.base_key(case, more) + (number,)
         if key not in outlines.zones:
             rows = base_rows(kernel, case) + cell_rows(kernel, case) + list(more)
-            outlines.zones[key] = lots.tiles_where(rows, parts_between(kernel, case))
+            outlines.zones[key] = lots.tiles_where(rows, parts)
         rests = point_cases(kernel, case[0][0])[case[0][1]][0][2]
         lots.take_in(rests, outlines.zones[key])
     return lots.region()

@@ -1,11 +1,11 @@
 """What a plan does to the deeds of a nest, told for all sizes by the cases of the cut: where each goes, and when."""
 
 from lanesmeet.cases import MARK, check_many, marked_name, marked_rows, meeting_rows, point_cases
-from lanesmeet.folding import all_of, none_of, same_terms, some_of
+from lanesmeet.folding import NEVER, all_of, none_of, same_terms, some_of
 from lanesmeet.forms import place_of
 from lanesmeet.images import Shade, shade_ahead, spare_rows
 from lanesmeet.nests import piece_names, piece_points
-from lanesmeet.pairs import NEVER, ahead, first_stand, second_stand
+from lanesmeet.pairs import ahead, first_stand, second_stand, sign_of
 from lanesmeet.races import all_reached, do_cross
 from lanesmeet.ways import weighed
 
@@ -195,10 +195,3 @@ class Ledger:
             name = "turn " + strand.name + mark
             turns.append(self.woven.layout.width * numbers[name] + offset)
         return deed.point, (0, 0), (0, 0), tuple(turns)
-
-
-def sign_of(one, other):
-    """-1 if the first number is less, 1 if it is greater, 0 if both are equal."""
-    if one == other:
-        return 0
-    return -1 if one < other else 1

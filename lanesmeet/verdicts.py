@@ -2,12 +2,11 @@
 
 from lanesmeet.bodies import words_read
 from lanesmeet.cases import DEEDS, check_many, marked_rows, point_cases, points_of
-from lanesmeet.folding import all_of, bound, none_of, same_term, same_terms, some_of
+from lanesmeet.folding import ALWAYS, NEVER, all_of, bound, none_of, same_term, same_terms, some_of
 from lanesmeet.forms import place_of
 from lanesmeet.givers import fetch_for, givers_of
 from lanesmeet.images import bound_shade, capital, image_shade, own_shade, shade_ahead, source_shade, spare_rows
 from lanesmeet.images import with_point
-from lanesmeet.pairs import ALWAYS, NEVER
 from lanesmeet.races import do_cross
 from lanesmeet.wording import said
 
