@@ -39,6 +39,18 @@ EXAMPLE = nest_of("n", (("a", "n"), ("b", "n")), (
     ("long", "j", bare(0), tiles("n"), (("take", "x", at("a", turn("j"))), ("put", at("b", turn("j")), "x")))))
 
 
+def wide_nest():
+    """A nest whose one piece has very many cases."""
+    part = ("not", ("within", (turn("i"), ZERO), "n"))
+    guard = part
+    for _ in range(4):
+        guard = ("or", guard, part)
+    block = (("let", "x", "f", ()), ("put", at("a", turn("i")), "x"))
+    for _ in range(5):
+        block = (("if", guard, block, ()),)
+    return nest_of("n", (("a", "n"),), (("long", "i", bare(0), tiles("n"), block),))
+
+
 class NestMaker:
     """Makes bodies of nests by a seed, of at most so many loops, ifs and pieces."""
 
