@@ -50,6 +50,24 @@ FUNCTIONS = {
              "turns_taken(kernel,sizes,width,banks,layings) paddings(kernel,array,width,banks) "
              "turnings(kernel,array,width,banks)",
     "placings": "evenly(counts,banks,first,second)",
+    "nests": "is_nest(thing) pieces_of(nest) outcome_along(nest,sizes,line)",
+    "carries": "carries(nest) carry_at(nest,carry) carry_region(nest,carry) free_loops(nest)",
+    "maps": "are_fellows(one,other) is_map(one,other,thing) image(one,other,chart,sizes,instance) "
+            "fetch(one,other,chart,sizes,instance) joined_map(one,two,three,first,second)",
+    "judge": "judge_sayings(one,other,chart) judge(one,other,chart) judge_papers(one,other,chart) "
+             "are_judge_papers(one,other,chart,thing)",
+    "stories": "story(kernel,sizes,order) told(one,other,chart,sizes,order)",
+    "changes": "changed(nest,change) spoil(nest,change) spoil_region(nest,change)",
+    "heights": "fall(nest,heights) lifts(nest,choice)",
+    "rounds": "reach_of(nest,heights,size) fewest_rounds(nest,size) chain_at(nest,sizes) "
+              "by_heights(nest,heights,name,size)",
+    "plans": "unfit(nest,plan)",
+    "making": "made(nest,plan) cut(nest,width)",
+    "wrongs": "missed(nest,plan) torn(nest,plan) wrong_region(nest,plan)",
+    "gaps": "fewest_gaps(nest,plan)",
+    "traces": "is_held(kernel,sizes,one,other) settled(kernel,sizes,order) order_of(kernel,sizes,ways) "
+              "ring_of(kernel,sizes,ways) is_ring_of(kernel,sizes,ways,thing) journal(kernel,sizes,order) "
+              "many_outcomes(kernel,sizes) outcomes(kernel,sizes) is_outcome(kernel,sizes,thing)",
 }
 CLASSES = {
     ("kernels", "Kernel"): ("width,lanes,blocks,sizes,promises,arrays,body", "around(point) __eq__(other)"),
@@ -60,6 +78,11 @@ CLASSES = {
     ("machine", "Run"): (
         "kernel,sizes",
         "able() standing(block,lane) do(block,lane) go(order) finish() end() content(cell) met() outcome()"),
+    ("plans", "Plan"): ("width,lanes,blocks,roles,gaps,copies", "__eq__(other)"),
+    ("live", "Live"): (
+        "kernel,sizes",
+        "able() standing(block,lane) content(cell) done() order() do(block,lane) open_pairs() is_settled() free() "
+        "to_open() many_left() behind(deed) take_back(deed) __eq__(other)"),
 }
 BARE = (
     "BadSystem BadName BadRow BadNames BadSaying BadPoint BadTerms BadClaims BadSizes BadPromises OtherSizes BadRests "
