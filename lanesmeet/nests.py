@@ -112,8 +112,8 @@ def check_nest_at(nest, sizes):
 
 
 def is_line(nest, thing, deeds):
-    """Whether thing is a list of all deeds, each once."""
-    if not is_listing(thing) or len(thing) != len(deeds):
+    """Whether a list is one of all deeds, each once."""
+    if len(thing) != len(deeds):
         return False
     left = {deed: True for deed in deeds}
     for deed in thing:
@@ -126,7 +126,7 @@ def is_line(nest, thing, deeds):
 def outcome_along(nest, sizes, line):
     """The outcome if the deeds are done in the order of a line."""
     check_nest_at(nest, sizes)
-    if not is_line(nest, line, deeds_along(nest, sizes)):
+    if not is_listing(line) or not is_line(nest, line, deeds_along(nest, sizes)):
         raise BadLine("this is no list of all deeds, each once")
     cells = {}
     seen = {}

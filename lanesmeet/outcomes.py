@@ -22,7 +22,6 @@ class CellStory:
 
     def note(self, words, met, left):
         """Notes what the contents tell; whether they can be those of an outcome."""
-        puts = [deed for deed in self.deeds if words[deed] == "put"]
         covering = {}
         for deed in self.deeds:
             if words[deed] != "add":
@@ -31,19 +30,18 @@ class CellStory:
                 self.seen[deed] = met[deed]
             if words[deed] == "put":
                 covering[repr(met[deed][0])] = deed
-        if len(covering) < len(puts):
-            return False
         return self.note_puts(covering, words, left)
 
     def note_puts(self, covering, words, left):
-        """Goes through the puts, from that which covers nothing on; each covers the one ahead of it."""
+        """Goes through the puts, from that which covers nothing on; each covers the one ahead of it.
+
+        Each put covers one content alone, so one never comes to a put twice.
+        """
         count = 0
         last = None
         ahead = {"None": 0}
         while repr(last) in covering:
             put = covering[repr(last)]
-            if put in self.turns:
-                return False
             self.note_adds(self.seen[put][1], count, words)
             self.turns[put] = count
             count = count + 1

@@ -1,6 +1,6 @@
 """Stories: what a run of a kernel does, and a run of another kernel told in the words of the first one."""
 
-from lanesmeet.cases import cell_at, check_at, stands_there
+from lanesmeet.cases import cell_at, stands_there
 from lanesmeet.givers import array_names
 from lanesmeet.machine import Run
 from lanesmeet.maps import check_map, fetch_at, image_at
@@ -56,7 +56,6 @@ def doer_in(other, chart, sizes, seen, deed):
 def told(one, other, chart, sizes, order):
     """A run of other in the words of one; None if it is no story of one."""
     check_map(one, other, chart)
-    check_at(other, sizes)
     run = run_along(other, sizes, order)
     end, seen, cells = run.outcome()
     images = images_in(one, other, chart, sizes, run) if end == "done" else None

@@ -1,6 +1,6 @@
 """Journals: the least record of an outcome, and all outcomes that orders can have."""
 
-from lanesmeet.cases import DEEDS, check_at, is_instance
+from lanesmeet.cases import DEEDS, is_instance
 from lanesmeet.errors import BadDeed, BadOrder, BadWays, TooMany
 from lanesmeet.loose import Order, Weft
 from lanesmeet.meaning import is_there_as
@@ -16,7 +16,6 @@ def check_deed(kernel, sizes, deed):
 
 def is_held(kernel, sizes, one, other):
     """Whether a deed is held ahead of another one."""
-    check_at(kernel, sizes)
     try:
         weft = Weft(kernel, sizes)
     except TooMany:
@@ -31,7 +30,6 @@ def is_held(kernel, sizes, one, other):
 
 def weft_for_order(kernel, sizes, order):
     """The weft; what is no list for an order is told ahead of TooMany."""
-    check_at(kernel, sizes)
     try:
         return Weft(kernel, sizes)
     except TooMany:
@@ -42,7 +40,6 @@ def weft_for_order(kernel, sizes, order):
 
 def weft_for_ways(kernel, sizes, ways):
     """The weft; what is no tuple of pairs for ways is told ahead of TooMany. Raises BadWays for no ways."""
-    check_at(kernel, sizes)
     try:
         weft = Weft(kernel, sizes)
     except TooMany:

@@ -17,6 +17,7 @@ from lanesmeet.making import cut, made
 from lanesmeet.maps import are_fellows, fetch, image, is_map, joined_map
 from lanesmeet.meaning import instances
 from lanesmeet.needed import never_races
+from lanesmeet.plans import Plan
 
 ONE = plain_kernel()
 OTHER = laned_kernel()
@@ -45,6 +46,7 @@ class Fellows(unittest.TestCase):
         self.assertIs(are_fellows(ONE, COPY), True)
         self.assertIs(are_fellows(OTHER, ONE), True)
         self.assertIs(are_fellows(COPY, ONE), False)
+        self.assertIs(are_fellows(COPY, COPY), False)
         for thing in NO_KERNELS:
             self.assertIs(are_fellows(thing, OTHER), False)
             self.assertIs(are_fellows(ONE, thing), False)
@@ -210,12 +212,15 @@ class Joined(unittest.TestCase):
         with self.assertRaises(BadFellows):
             joined_map(ONE, COPY, OTHER, COPIED, None)
         with self.assertRaises(BadMap):
-            joined_map(ONE, OTHER, OTHER, None, CHART)
-        with self.assertRaises(BadMap):
             joined_map(ONE, OTHER, OTHER, first, None)
         own = (((("block", 0, 0), NOUGHT), (("block", 1, 0), NOUGHT)), (("lane", 0), ("lane", 1)), ())
         second = ({0: (0,) + own, 2: (2,) + own}, {})
         self.assertEqual(list(joined_map(ONE, OTHER, OTHER, first, second)[0]), [0, 2])
+        backwards = ({2: second[0][2], 0: second[0][0]}, {})
+        self.assertEqual(list(joined_map(ONE, OTHER, OTHER, first, backwards)[0]), [0, 2])
+        for chart in (None, 5, ({}, {}), [first[0], {}], CHART[::-1]):
+            with self.assertRaises(BadMap):
+                joined_map(ONE, OTHER, OTHER, chart, second)
         with self.assertRaises(BadMap):
             joined_map(ONE, OTHER, OTHER, ({2: first[0][2]}, {}), second)
 
@@ -231,6 +236,36 @@ class Joined(unittest.TestCase):
         tile = (("block", 0, 6), ("plus", ("rest", "n"), ("times", ("is", 2), ("over", ("is", 3), 2))))
         self.assertEqual(found[2], (4, (STILL, tile), (("minus", ("is", 1), ("lane", 1)), NOUGHT),
                                     ((("tiles", "n", 2), ("lane", 0)), NOUGHT)))
+
+    def test_short_loops(self):
+        """There and back again: lanes to short turns to lanes."""
+        back = (((("turn", "t", 0), NOUGHT), STILL), (NOUGHT, ("turn", "o")), ())
+        first = ({2: (0,) + back, 4: (2,) + back}, {})
+        self.assertIs(is_map(OTHER, ONE, first), True)
+        self.assertEqual(judge(OTHER, ONE, first), ("alike",))
+        found = joined_map(OTHER, ONE, OTHER, first, CHART)
+        tile = (("block", 0, 0), ("plus", NOUGHT, ("times", ("is", 2), ("over", NOUGHT, 2))))
+        self.assertEqual(found[0], {0: (0, (tile, STILL), (NOUGHT, ("lane", 1)), ()),
+                                    2: (2, (tile, STILL), (NOUGHT, ("lane", 1)), ())})
+        for deed in all_instances(OTHER, AT):
+            if deed[0] != 1:
+                self.assertEqual(image(OTHER, OTHER, found, AT, deed), deed)
+        self.assertEqual(judge(OTHER, OTHER, found), ("alike",))
+        more = ({**first[0], 2: (0, back[0], (NOUGHT, ("minus", ("is", 1), ("over", ("turn", "o"), 1))), ())}, {})
+        found = joined_map(OTHER, ONE, OTHER, more, CHART)
+        self.assertEqual(found[0][0][2], (NOUGHT, ("minus", ("is", 1), ("over", ("lane", 1), 1))))
+
+    def test_two_reads(self):
+        block = (("take", "x", nestery.at("a", nestery.turn("i", -1))), ("take", "y", nestery.at("a", nestery.turn("i"))),
+                 ("let", "z", "f", ("x", "y")), ("put", nestery.at("b", nestery.turn("i")), "z"))
+        nest = nestery.nest_of("n", (("a", "n"), ("b", "n")), (
+            ("long", "i", nestery.bare(1), nestery.tiles("n"), block),))
+        plan = Plan(2, (1, 2), (LONE, ("tiles", "n", 1)), {0: ("block", 1)}, (), (("a", None),))
+        kernel, (deeds, sources) = made(nest, plan)
+        self.assertEqual(len(sources), 2)
+        backwards = ({key: deeds[key] for key in reversed(deeds)}, {key: sources[key] for key in reversed(sources)})
+        self.assertIs(is_map(cut(nest, 2), kernel, backwards), True)
+        self.assertEqual(judge(cut(nest, 2), kernel, backwards), ("alike",))
 
     def test_sources_stay(self):
         back = (((("block", 0, 0), NOUGHT), STILL), (NOUGHT, ("minus", ("is", 1), ("lane", 1))), ())

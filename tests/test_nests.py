@@ -46,6 +46,7 @@ class Nests(unittest.TestCase):
 
     def test_what_may_not_stand_in_a_nest(self):
         guard = ("small", ("is", 1), "less", ("lane", 0))
+        left = ("small", ("lane", 0), "less", ("is", 1))
         block = ("order", (("block", 0, 0), ZERO), (bare(0), ZERO))
         within = ("not", ("and", ("within", (bare(0), ("plus", ("lane", 1), ("is", 0))), "n"), ("small", ZERO, "less", ZERO)))
         for body in ((LET,), (LET, PUT, LET), (LET, PUT, PUT), (TAKE, ("let", "y", "f", ("x",))),
@@ -53,7 +54,7 @@ class Nests(unittest.TestCase):
                      (LET, ("long", "i", bare(0), tiles("n"), ()), PUT), (LET, ("if", guard, (), ()), PUT),
                      (LET, PUT, ("put", PUT[1], "x")), (LET, PUT, ("let", "y", "f", ("x",)), ("put", PUT[1], "y")),
                      (("short", "k", 2, (LET, PUT)),), (("meet",),), (LET, ("meet",), PUT), (LET, PUT, ("meet",)),
-                     (("if", guard, (LET, PUT), ()),), (("if", block, (LET, PUT), ()),),
+                     (("if", guard, (LET, PUT), ()),), (("if", left, (LET, PUT), ()),), (("if", block, (LET, PUT), ()),),
                      (("if", within, (LET, PUT), ()),), (("long", "i", ("block", 0, 0), tiles("n"), (LET, PUT)),),
                      (("long", "i", bare(0), ("block", 1, 0), (LET, PUT)),),
                      (LET, ("put", ("a", ((bare(0), ("lane", 0)),)), "x")), (LET, ("put", at("a", ("block", 0, 0)), "x")),
@@ -87,6 +88,8 @@ class Nests(unittest.TestCase):
         with self.assertRaises(TooMany) as caught:
             outcome_along(long, {"n": (20001, 0)}, [])
         self.assertEqual(caught.exception.most, 20000)
+        with self.assertRaises(BadLine):
+            outcome_along(long, {"n": (20001, 0)}, None)
         one = deeds[0]
         for line in (None, 5, {}, "line", deeds[:-1], deeds + [one], [one] * len(deeds), deeds[:-1] + [None],
                      deeds[:-1] + [list(deeds[-1])], [(1, (0, 0), (0, 0), (True,))] + deeds[1:],

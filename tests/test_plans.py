@@ -191,6 +191,30 @@ class Plans(unittest.TestCase):
                                       ((("a", 0),), {0: ("lane", 0), 1: ("lane", 1)}, "copies")):
             self.assertEqual(word(nested, copies, roles, arrays), wanted, (copies, roles))
 
+    def test_copies_within_loops(self):
+        def nest_with(*inner):
+            return nest_of("n", (("a", "n"), ("b", "nn")), (("long", "i", bare(0), tiles("n"), inner),))
+
+        def piece(*forms):
+            takes = tuple(("take", "xyz"[at_], at("a", form)) for at_, form in enumerate(forms))
+            return takes + (("put", at("b", turn("i"), bare(0)), "x"),)
+
+        def loop(*block):
+            return ("long", "j", bare(0), tiles("n"), block)
+
+        blocks = {"blocks": (LONE, ("tiles", "n", 0))}
+        within = nest_with(loop(*piece(turn("i"))))
+        self.assertIsNone(unfit(within, plan_with(roles={0: ("block", 1), 1: ("turn",)}, copies=(("a", 1),), **blocks)))
+        around = nest_with(*piece(turn("i")), loop(*piece(turn("i"))))
+        roles = {0: ("block", 1), 3: ("turn",)}
+        self.assertEqual(unfit(around, plan_with(roles=roles, copies=(("a", 3),), **blocks)), "copies")
+        self.assertIsNone(unfit(around, plan_with(roles=roles, copies=(("a", None),), **blocks)))
+        mixed = nest_with(loop(*piece(turn("i"), turn("j"))))
+        for point in (0, 1):
+            for roles in ({0: ("turn",), 1: ("turn",)}, {0: ("turn",), 1: ("lane", 1)}):
+                self.assertEqual(unfit(mixed, plan_with(roles=roles, copies=(("a", point),))), "copies")
+        self.assertEqual(unfit(mixed, plan_with(roles={0: ("block", 1), 1: ("turn",)}, copies=(("a", 1),), **blocks)), "copies")
+
     def test_kernel(self):
         for name in ("abcdefgh",):
             nest = nest_of("n", (("a", "n"),), (("long", name, bare(0), tiles("n"), (LET, ("put", at("a", turn(name)), "x"))),))

@@ -85,7 +85,8 @@ class Traces(unittest.TestCase):
             with self.assertRaises(TooMany) as caught:
                 call()
             self.assertEqual(caught.exception.most, 20000)
-        for call, error in ((lambda: is_held(loop, large, deed, None), BadDeed), (lambda: settled(loop, large, None), BadOrder),
+        for call, error in ((lambda: is_held(loop, large, deed, None), BadDeed), (lambda: is_held(loop, large, None, deed), BadDeed),
+                            (lambda: settled(loop, large, None), BadOrder),
                             (lambda: journal(loop, large, 5), BadOrder), (lambda: order_of(loop, large, None), BadWays),
                             (lambda: ring_of(loop, large, []), BadWays), (lambda: is_ring_of(loop, large, None, None), BadWays)):
             with self.assertRaises(error):
@@ -112,7 +113,8 @@ class Traces(unittest.TestCase):
         take = pair[0]
         for ways in (None, 5, [], [pair], (None,), (pair[:1],), (list(pair),), (pair + pair,), (pair, pair), (pair, pair[::-1]),
                      (pair[::-1], pair), (other, pair), ((take, take),), ((take, other[1]),), ((None, take),),
-                     (((True,) + take[1:], pair[1]),), ((pair[0], (1, B, (0, True), ())),)):
+                     (((True,) + take[1:], pair[1]),), ((pair[0], (1, B, (0, True), ())),), ((take, list(pair[1])),),
+                     ((list(take), pair[1]),), ((take, {}),)):
             for one in (order_of, ring_of):
                 with self.assertRaises(BadWays, msg=ways):
                     one(RACED, AT, ways)
@@ -214,18 +216,45 @@ class Traces(unittest.TestCase):
                                                       for order in runs.Plain(adds, {}).orders(200000)}))
 
     def test_exactly_1000_are_few_enough(self):
-        # Ten lanes put by pairs into five cells, thrice: 2 to the power of 5, and so on; none is above 1000.
-        half = ("over", LANE, 2)
-        kernel = Kernel(1, (1, 8), (LONE, LONE), (), (), (("shared", "s", (4,)),), (
-            ("let", "w", "f", ()), ("put", ("s", (half,)), "w"), ("meet",), ("put", ("s", (half,)), "w")))
-        self.assertEqual(many_outcomes(kernel, {}), 256)
-        kernel = Kernel(1, (1, 8), (LONE, LONE), (), (), (("shared", "s", (4,)),), kernel.body + (
-            ("meet",), ("if", ("small", LANE, "less", ("is", 4)), (("put", ("s", (half,)), "w"),), ())))
-        with self.assertRaises(TooMany):
-            many_outcomes(kernel, {})
-        kernel = Kernel(1, (1, 8), (LONE, LONE), (), (), (("shared", "s", (4,)),), kernel.body[:-2] + (
-            ("meet",), ("if", ("small", LANE, "less", ("is", 2)), (("put", ("s", (half,)), "w"),), ())))
-        self.assertEqual(many_outcomes(kernel, {}), 512)
+        def only(lane, *block):
+            return ("if", ("small", LANE, "same", ("is", lane)), block, ())
+
+        # A take comes ahead of nine puts of another lane, or behind some of them: ten outcomes for each of three blocks.
+        put = ("put", cell(("is", 0)), "w")
+        body = (("let", "w", "f", ()), only(0, ("short", "k", 8, (put,)), put), only(1, ("take", "x", cell(("is", 0)))))
+        kernel = Kernel(1, (1, 2), (("none", None, 3), LONE), (), (), (("shared", "s", (1,)),), body)
+        self.assertEqual(many_outcomes(kernel, {}), 1000)
+        self.assertEqual(len(outcomes(kernel, {})), 1000)
+        # 7 * 11 * 13 are 1001.
+        body = (("let", "w", "f", ()),)
+        for lane, counts in ((0, (6,)), (2, (8, 2)), (4, (8, 4))):
+            own = ("put", cell(("is", lane)), "w")
+            body = body + (only(lane, *[("short", "k", count, (own,)) for count in counts]),
+                           only(lane + 1, ("take", "x", cell(("is", lane)))))
+        kernel = Kernel(1, (1, 6), (LONE, LONE), (), (), (("shared", "s", (5,)),), body)
+        for one in (many_outcomes, outcomes):
+            with self.assertRaises(TooMany):
+                one(kernel, {})
+
+    def test_outcomes_of_two_kinds_of_deeds(self):
+        """is_outcome for each order of deeds at one cell, of two lanes."""
+        deeds = (("take", "x", cell(("is", 0))), ("put", cell(("is", 0)), "w"), ("add", cell(("is", 0)), "w"))
+        for first in deeds:
+            for second in deeds:
+                for third in (deeds[1], deeds[2]):
+                    sides = ("if", ("small", LANE, "same", ("is", 0)), (first, third), (second,))
+                    kernel = shared(2, sides)
+                    plain = runs.Plain(kernel, {})
+                    found = {}
+                    for order in plain.orders(100):
+                        found[canon(plain.outcome(order))] = plain.outcome(order)
+                        self.assertIs(is_outcome(kernel, {}, plain.outcome(order)), True)
+                    self.assertEqual(many_outcomes(kernel, {}), len(found))
+                    whole = list(found.values())
+                    for one in whole:
+                        for other in whole:
+                            mixed = (one[0], one[1], other[2])
+                            self.assertEqual(is_outcome(kernel, {}, mixed), canon(mixed) in found)
 
     def test_bad_outcomes(self):
         kernel = shared(2, ("put", cell(("is", 0)), "w"), ("take", "x", cell(("is", 0))), ("add", cell(LANE), "w"))
