@@ -4,7 +4,7 @@ from lanesmeet.cases import DEEDS
 from lanesmeet.crossings import Search, can_cross, equal_turns, less_turn, turn_pair
 from lanesmeet.errors import BadBody, BadChange
 from lanesmeet.moves import Changer
-from lanesmeet.nests import check_nest, is_nest, items_of
+from lanesmeet.nests import check_nest, items_of
 from lanesmeet.parts import NOTHING, plain_spot
 from lanesmeet.plain import is_between, is_number
 from lanesmeet.rewriting import end_of, with_body
@@ -69,9 +69,7 @@ def drawn(nest, change):
     try:
         found = with_body(nest, draft.statements)
     except BadBody:
-        raise BadChange("what comes of it is no kernel")
-    if not is_nest(found):
-        raise BadChange("what comes of it is no nest")
+        raise BadChange("what comes of it is no nest by its limits")
     return found, draft.olds, changer
 
 

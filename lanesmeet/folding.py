@@ -29,9 +29,9 @@ def none_of(part):
     return ALWAYS if part == NEVER else ("not", part)
 
 
-def at_most(one, other, more):
-    """The saying that a term, a pair (name or None, number), is at most another one with more."""
-    number = other[1] + more - one[1]
+def at_most(one, other):
+    """The saying that a term, a pair (name or None, number), is at most another one."""
+    number = other[1] - one[1]
     if one[0] == other[0]:
         return ALWAYS if number >= 0 else NEVER
     return "row", one[0], other[0], number
@@ -39,7 +39,7 @@ def at_most(one, other, more):
 
 def same_term(one, other):
     """The saying that two terms are equal."""
-    return all_of([at_most(one, other, 0), at_most(other, one, 0)])
+    return all_of([at_most(one, other), at_most(other, one)])
 
 
 def same_terms(ones, others):

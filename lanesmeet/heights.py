@@ -15,7 +15,7 @@ from lanesmeet.ways import first_ring, least_sums, weighed
 
 def is_height(nest, name, thing):
     """Whether thing is a height of the piece of this name."""
-    if not is_form(thing) or thing[0] == "block":
+    if not is_form(thing):
         return False
     if thing[0] == "tiles":
         return thing[1] in [size[0] for size in nest.sizes]

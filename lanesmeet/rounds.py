@@ -8,7 +8,7 @@ from lanesmeet.forms import is_word, tiles_name
 from lanesmeet.guards import form_name
 from lanesmeet.heights import check_heights, drops_of, first_fall, steps_of
 from lanesmeet.moves import Draft, around_it, order_guard, put_together
-from lanesmeet.nests import check_nest, check_nest_at, deeds_along, is_nest, piece_names, piece_points
+from lanesmeet.nests import check_nest, check_nest_at, deeds_along, piece_names, piece_points
 from lanesmeet.parts import Renamer, with_more
 from lanesmeet.rewriting import with_body
 from lanesmeet.ways import least_sums, weighed
@@ -228,8 +228,8 @@ def chain_at(nest, sizes):
 
 def check_round_name(nest, name):
     """Raises BadName for what is no name, or one of a loop."""
-    if not is_word(name) or name in [loop[1] for loops in nest.loops for loop in loops]:
-        raise BadName("this is no name, or one of a loop")
+    if not is_word(name):
+        raise BadName("this is no name")
     if name in [statement[1] for statement in nest.statements if statement[0] == "long"]:
         raise BadName("this is the name of a loop")
 
@@ -296,9 +296,7 @@ def by_heights(nest, heights, name, size):
     try:
         found = with_body(nest, whole.statements)
     except BadBody:
-        raise TooDeep("what comes is no kernel by its limits")
-    if not is_nest(found):
-        raise TooDeep("what comes is no nest")
+        raise TooDeep("what comes is no nest by its limits")
     names = piece_names(nest)
     deeds = {}
     for point, old in enumerate(whole.olds):

@@ -176,6 +176,30 @@ class Changes(unittest.TestCase):
             with self.assertRaises(BadChange):
                 changed(nest_of(("n", "m"), (("a", ("n", "m")),), (nest.body[0], change)), ("join", 0))
 
+    def test_join_and_swap_among_others(self):
+        def loop(name, place, word="put"):
+            return ("long", name, bare(0), tiles("n"), (LET, (word, place, "x")))
+
+        first = loop("k", at("b", turn("k")))
+        one = loop("i", at("a", turn("i")))
+        other = loop("j", at("a", turn("j", 1)))
+        last = ("long", "l", bare(1), tiles("n"), (LET, ("put", at("b", turn("l")), "x")))
+        nest = nest_of("n", (("a", "n"), ("b", "n")), (first, one, other, last))
+        found, (deeds, _) = changed(nest, ("join", 3))
+        joined = ("long", "i", bare(0), tiles("n"), one[4] + (LET, ("put", at("a", turn("i", 1)), "x")))
+        self.assertEqual(found.body, (first, joined, last))
+        self.assertEqual([deeds[point][0] for point in deeds], [2, 5, 8, 11])
+        self.assertEqual(spoil_region(nest, ("join", 3)).least(), {"n": (2, 0)})
+        sizes, before, later = spoil(nest, ("join", 3))
+        self.assertEqual((before[0], later[0], before[3][0] - later[3][0]), (5, 8, 1))
+        with self.assertRaises(BadChange):
+            changed(nest, ("join", 6))
+        found, _ = changed(nest, ("swap", 3))
+        self.assertEqual(found.body, (first, other, one, last))
+        self.assertEqual(spoil_region(nest, ("swap", 3)).least(), {"n": (2, 0)})
+        self.assertIsNone(spoil(nest, ("swap", 6)))
+        self.assertIsNone(spoil(nest, ("swap", 0)))
+
     def test_shift(self):
         nest = square(turn("i", 1), tiles("m", -2))
         self.assertEqual(body_of(nest, ("shift", 0, 3)), (("long", "i", bare(3), tiles("n", 3), (

@@ -197,6 +197,68 @@ class Judge(unittest.TestCase):
         self.assertEqual(judge(forth, back, chart),
                          ("turned", {"n": (1, 0)}, (2, (0, 0), (0, 0), ()), (1, (0, 0), (0, 0), ())))
 
+    def test_images_with_rests_and_tiles(self):
+        spot = (("block", 0, -1), ("plus", ("rest", "n"), ("is", 2)))
+        tail = (STILL, STILL), (NOUGHT, ("minus", ("is", 3), ("is", 3))), (spot, ("plus", ("lane", 1), ("rest", "n")))
+        chart = ({0: (2,) + tail, 2: (4,) + tail}, {})
+        self.assertEqual(judge(ONE, OTHER, chart), ("alike",))
+        self.assertTrue(are_judge_papers(ONE, OTHER, chart, judge_papers(ONE, OTHER, chart)))
+        less = (("block", 0, -1), ("plus", ("rest", "n"), ("is", 1)))
+        chart = ({0: (2,) + tail[:2] + ((less, tail[2][1]),), 2: (4,) + tail}, {})
+        self.assertEqual(judge(ONE, OTHER, chart), ("strange", {"n": (1, 0)}, (0, (0, 0), (0, 0), ())))
+
+    def test_undone_by_one_lane(self):
+        only = Kernel(2, (1, 2), OTHER.blocks, OTHER.sizes, (), OTHER.arrays, (
+            ("if", ("small", ("lane", 1), "same", NOUGHT), OTHER.body, ()),))
+        chart = ({1: CHART[0][0], 3: CHART[0][2]}, {})
+        self.assertEqual(judge(ONE, only, chart), ("undone", {"n": (1, 0)}, (2, (0, 0), (0, 0), (0, 1))))
+
+    def test_double_of_one_case(self):
+        there = (("none", None, 0), ("turn", "o"))
+        one = Kernel(2, (1, 1), (LONE, LONE), ONE.sizes, (), ONE.arrays, (("short", "o", 2, (("take", "x", ("a", (there,))),)),))
+        take = ("take", "x", ("a", ((("none", None, 0), ("lane", 1)),)))
+        tail = (STILL, STILL), (NOUGHT, NOUGHT), (("lane", 1),)
+        blocks = Kernel(2, (1, 2), OTHER.blocks, ONE.sizes, (), ONE.arrays, (take,))
+        self.assertEqual(judge(one, blocks, ({0: (1,) + tail}, {})),
+                         ("double", {"n": (2, 0)}, (0, (0, 0), (0, 0), ()), (0, (1, 0), (0, 0), ())))
+        loop = Kernel(2, (1, 2), (LONE, LONE), ONE.sizes, (), ONE.arrays, (
+            ("long", "t", ("none", None, 0), ("tiles", "n", 0), (take,)),))
+        self.assertEqual(judge(one, loop, ({1: (1,) + tail}, {})),
+                         ("double", {"n": (2, 0)}, (1, (0, 0), (0, 0), (0,)), (1, (0, 0), (0, 0), (1,))))
+
+    def test_mixed_by_images(self):
+        """The takes have images of their own kind and cell, but not those of the puts."""
+        def body(take, put):
+            return (("take", "x", ("a", (take,))), ("let", "y", "f", ("x",)), ("put", ("b", put), "y"))
+
+        plain = (("none", None, 0), NOUGHT)
+        one = Kernel(2, (1, 1), (LONE, LONE), ONE.sizes, (), ONE.arrays, (("short", "o", 2, body(
+            plain, ((("none", None, 0), ("turn", "o")),))),))
+        other = Kernel(2, (1, 2), (LONE, LONE), ONE.sizes, (), ONE.arrays, body(plain, ((("none", None, 0), ("lane", 1)),)))
+        head = (STILL, STILL), (NOUGHT, NOUGHT)
+        good = ({0: (1,) + head + ((("lane", 1),),), 2: (3,) + head + ((("lane", 1),),)}, {})
+        self.assertEqual(judge(one, other, good), ("alike",))
+        self.assertEqual(judge(one, other, ({**good[0], 0: (1,) + head + ((MINE,),)}, {})),
+                         ("mixed", {"n": (0, 0)}, (2, (0, 0), (0, 0), ())))
+        arrays = (ONE.arrays[0], ("far", "b", ("n", "n")))
+        square = body(plain, ((("turn", "t", 0), NOUGHT), (("turn", "u", 0), NOUGHT)))
+        for name in "ut":
+            square = (("long", name, ("none", None, 0), ("tiles", "n", 0), square),)
+        loops = Kernel(2, (1, 1), (LONE, LONE), ONE.sizes, (), arrays, square)
+        t, u = (("turn", "t", 0), NOUGHT), (("turn", "u", 0), NOUGHT)
+        self.assertEqual(judge(loops, loops, ({2: (2,) + head + ((t, u),), 4: (4,) + head + ((t, u),)}, {})), ("alike",))
+        self.assertEqual(judge(loops, loops, ({2: (2,) + head + ((u, t),), 4: (4,) + head + ((t, u),)}, {})),
+                         ("mixed", {"n": (2, 0)}, (4, (0, 0), (0, 0), (0, 1))))
+
+    def test_puts_between_in_loops(self):
+        again = (("long", "t", ("none", None, 1), ("tiles", "n", 0), (
+            ("take", "v", ("b", (HERE,))), ("put", ("s", (("lane", 1),)), "v"), ("meet",))),)
+        late = copy_with(COPY.body[:3] + again + COPY.body[3:])
+        chart = ({7: COPIED[0][3], 9: COPIED[0][5]}, {7: COPIED[1][3]})
+        self.assertEqual(judge(ONE, late, chart), ("unfetched", {"n": (2, 0)}, (7, (0, 0), (0, 0), ())))
+        less = copy_with(COPY.body[:3] + (again[0][:3] + (("none", None, 1),) + again[0][4:],) + COPY.body[3:])
+        self.assertEqual(judge(ONE, less, chart), ("alike",))
+
     def test_papers_of_the_example(self):
         papers = judge_papers(ONE, COPY, COPIED)
         sayings = judge_sayings(ONE, COPY, COPIED)
@@ -242,6 +304,34 @@ class Judge(unittest.TestCase):
             with self.assertRaises(TooMany) as caught:
                 one(wide, wide, ({4: target}, {}))
             self.assertEqual(caught.exception.most, 20000)
+
+    def test_too_many_keys(self):
+        where = ((("none", None, 0), ("lane", 1)),
+                 (("none", None, 0), ("plus", ("turn", "k"), ("plus", ("times", ("is", 8), ("lane", 0)),
+                                                              ("times", ("is", 16), ("turn", "l"))))))
+        body = (("short", "k", 8, (("short", "l", 2, (("let", "x", "f", ()), ("put", ("a", where), "x"))),)),)
+        kernel = Kernel(8, (2, 8), (LONE, LONE), ONE.sizes, (), (("far", "a", ("n", "n")),), body)
+        target = (3, (STILL, STILL), (("lane", 0), ("lane", 1)), (("turn", "k"), ("turn", "l")))
+        self.assertTrue(never_races(kernel))
+        for one in (judge, judge_sayings, judge_papers, lambda *told_ones: are_judge_papers(*told_ones, None)):
+            with self.assertRaises(TooMany) as caught:
+                one(kernel, kernel, ({3: target}, {}))
+            self.assertEqual(caught.exception.most, 20000)
+
+    def test_not_one_is_ahead_of_too_many(self):
+        body = (("let", "x", "f", ()), ("put", ("a", (STILL, (("none", None, 0), ("turn", "l")))), "x"))
+        for name in "lkj":
+            body = (("short", name, 8, body),)
+        sizes = (("n", tuple(range(8))), ("m", tuple(range(8))))
+        wide = Kernel(8, (1, 2), (LONE, LONE), sizes, (), (("far", "a", ("n", "m")),), body)
+        raced = Kernel(8, (1, 2), (LONE, LONE), sizes, (), wide.arrays, (
+            ("let", "x", "f", ()), ("put", ("a", (STILL, STILL)), "x")))
+        target = (4, (STILL, STILL), (NOUGHT, NOUGHT), (NOUGHT, NOUGHT, NOUGHT))
+        with self.assertRaises(TooMany):
+            never_races(wide)
+        for one in (judge, judge_sayings, judge_papers):
+            with self.assertRaises(NotOne):
+                one(wide, raced, ({1: target}, {}))
 
     def test_gone_through(self):
         words = {}

@@ -161,6 +161,28 @@ class Rounds(unittest.TestCase):
         with self.assertRaises(TooMany):
             chain_at(long, {"n": (20001, 0)})
 
+    def test_a_chain_by_hand(self):
+        def piece(put, *takes):
+            read = tuple(("take", "xyz"[at_], at("a", bare(cell))) for at_, cell in enumerate(takes))
+            return (read or (LET,)) + (("put", at("a", bare(put)), "x"),)
+
+        # Of the takes from cell 5 the first one has the longer chain.
+        nest = nest_of("n", (("a", "n"),), piece(0) + piece(1, 0) + piece(2, 1, 5) + piece(3, 5) + piece(5))
+        names = pieces_of(nest)
+        chain = chain_at(nest, {"n": (9, 0)})
+        self.assertEqual([one[0] for one in chain], [names[0], names[1], names[2], names[4]])
+
+    def test_just_so_many_choices(self):
+        def loop(name, *block):
+            return ("long", name, bare(0), bare(1), block)
+
+        piece = (LET, ("add", at("a", bare(0)), "x"))
+        body = (loop("i", loop("j", loop("k", *(piece * 4)), *(piece * 2))),) + piece
+        number, heights = fewest_rounds(nest_of("n", (("a", "n"),), body), None)
+        self.assertEqual((number, len(heights)), (1, 7))
+        with self.assertRaises(TooMany):
+            fewest_rounds(nest_of("n", (("a", "n"),), body + piece), None)
+
     def test_reach_and_chains_gone_through(self):
         for seed in range(30):
             nest = nestery.made_nest(seed)
