@@ -64,11 +64,9 @@ class CellStory:
         """Whether the outcome tells that one of two deeds that cross is done ahead of the other one."""
         first = self.turns[one]
         second = self.turns[other]
-        if words[one] == "put":
+        if words[one] == "put" or first != second:
             return first < second
-        if words[other] == "put" or first != second:
-            return first <= second
-        # One adds and the other one takes, with the same puts ahead of both.
+        # The same puts are ahead of both; whether one is ahead of the other tells what this one saw or covered.
         return other not in self.seen[one][1] if words[one] == "take" else one in self.seen[other][1]
 
 

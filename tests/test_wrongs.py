@@ -56,7 +56,7 @@ def made_rows(r):
         roles[0] = ("turn",)
     if r.random() < 0.2:
         roles[max(roles)] = ("turn",)
-    return nest, Plan(2, (1, 2), BLOCKS, roles, (), ())
+    return nest, Plan(r.choice((2, 4)), (1, 2), BLOCKS, roles, (), ())
 
 
 class Layout:
