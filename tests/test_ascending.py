@@ -1,9 +1,15 @@
 """[3]: dicts that are returned have ascending keys, at every depth: what is returned is gone through."""
 
+import random
 import unittest
 
 from samples import all_sizes_up_to, made_kernel
 
+import nestery
+import pairing
+import planning
+from lanesmeet import (
+    carries, changes, gaps, heights, judge, making, nests, rounds, stories, wrongs)
 from lanesmeet import banks, costs, covers, edges, lines, machine, needed, parted, races, steps, told, traffic, trimming
 from lanesmeet.differences import chains, closed, least_point
 from lanesmeet.errors import LaneError
@@ -84,6 +90,41 @@ class Ascending(unittest.TestCase):
             self.check(edges.farthest, kernel, array, 0, 1)
             self.check(banks.paddings, kernel, array, 2, 3)
             self.check(banks.turnings, kernel, array, 2, 3)
+
+    def test_nests(self):
+        for seed in range(40):
+            nest = nestery.made_nest(seed)
+            for carry in carries.carries(nest):
+                self.check(carries.carry_at, nest, carry)
+            choice = {piece: ("none", None, 0) for piece in reversed(nests.pieces_of(nest))}
+            self.check(heights.lifts, nest, choice)
+            self.check(heights.fall, nest, choice)
+            found = self.check(rounds.fewest_rounds, nest, "n")
+            if found is not None:
+                backwards = {piece: found[1][piece] for piece in reversed(found[1])}
+                self.check(rounds.by_heights, nest, backwards, "r", "n")
+            for point in range(len(nest.statements)):
+                for change in (("swap", point), ("exchange", point), ("shift", point, 1)):
+                    self.check(changes.changed, nest, change)
+                    self.check(changes.spoil, nest, change)
+            for sizes in all_sizes_up_to(nest, 1):
+                self.check(stories.story, nest, sizes, [])
+                self.check(nests.outcome_along, nest, sizes, nestery.deeds_at(nest, sizes)[::-1])
+
+    def test_pairs_and_plans(self):
+        for seed in range(40):
+            r = random.Random(seed)
+            nest = nestery.made_nest(seed, loops=2, pieces=2)
+            plan = planning.fitting_plan(nest, r, (1, 2))
+            if plan is not None:
+                for one in (making.made, wrongs.missed, wrongs.torn, gaps.fewest_gaps):
+                    self.check(one, nest, plan)
+                self.assertEqual(list(plan.roles), sorted(plan.roles))
+            pair = pairing.made_pair(seed)
+            if pair is not None:
+                self.check(judge.judge, *pair)
+                for sizes in all_sizes_up_to(pair[1], 1):
+                    self.check(stories.told, *pair, sizes, [])
 
     def test_papers_stand_in_the_order_of_their_cases(self):
         for seed in range(30):
