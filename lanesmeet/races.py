@@ -215,6 +215,9 @@ class Outlines:
 
     def is_empty(self, case, more):
         """Whether no numbers keep the rows of a race case with more rows."""
+        # Of one block on an axis none is less than another one there: this need not be weighed.
+        if case[2] != "same" and self.kernel.blocks[int(case[2][-1])] == ("none", None, 1):
+            return True
         key = self.base_key(case, more)
         if key not in self.empty:
             rows = base_rows(self.kernel, case) + cell_rows(self.kernel, case) + list(more)
@@ -270,7 +273,7 @@ def region_of(kernel, asked):
         key = outlines.base_key(case, more) + (number,)
         if key not in outlines.zones:
             rows = base_rows(kernel, case) + cell_rows(kernel, case) + list(more)
-            outlines.zones[key] = lots.tiles_where(rows, parts)
+            outlines.zones[key] = lots.tiles_if_kept(rows, parts)
         rests = point_cases(kernel, case[0][0])[case[0][1]][0][2]
         lots.take_in(rests, outlines.zones[key])
     return lots.region()

@@ -1,10 +1,11 @@
 """Lots of tiles that are told by rows and sayings, and the regions that they make."""
 
-from lanesmeet.cuts import named_rows, zones_of
+from lanesmeet.cuts import cut, named_rows
+from lanesmeet.fields import headed, places_of, zone_by
 from lanesmeet.forms import all_rests, tiles_name
 from lanesmeet.regions import Region
-from lanesmeet.ways import weighed
-from lanesmeet.wording import free_in, one_of, said
+from lanesmeet.ways import names_of, weighed
+from lanesmeet.wording import bound_in, names_in, one_of
 from lanesmeet.zones import is_covered, thinned
 
 
@@ -18,13 +19,17 @@ class Lots:
 
     def tiles_where(self, rows, parts):
         """The zones of the tiles for which some numbers keep the rows, and all parts hold."""
-        if weighed(rows, {})[0] is None:
-            return []
-        saying = ("and", tuple([said(row) for row in rows] + parts))
-        others = [name for name in free_in(saying) if name not in self.names]
+        return [] if weighed(rows, {})[0] is None else self.tiles_if_kept(rows, parts)
+
+    def tiles_if_kept(self, rows, parts):
+        """As tiles_where, where some numbers surely keep the rows."""
+        saying = ("and", tuple(parts))
+        others = sorted(set(names_of(rows) + names_in(saying)))
+        names = self.names + [name for name in others if name not in self.names]
+        places = places_of(names + sorted(set(bound_in(saying))))
+        zones = cut(zone_by(rows, places), saying, True, places)
         count = len(self.names) + 1
-        zones = zones_of(saying, self.names + others)
-        return thinned([[row[:count] for row in zone[:count]] for zone in zones])
+        return thinned([headed(zone, count) for zone in zones])
 
     def take_in(self, rests, zones):
         """Adds zones to those of the rests."""
