@@ -30,13 +30,19 @@ def less_numbers(ones, others):
 
 
 class Bench:
-    """Two fellows and a map of them; shades are the images of their cases, told already."""
+    """Two fellows and a map of them; shades are the images of their cases, told already.
+
+    doers and puts are all deeds by their images and all puts at shared arrays by their cells, with bound names;
+    they are told when they are first asked for.
+    """
 
     def __init__(self, one, other, chart):
         self.one = one
         self.other = other
         self.chart = chart
         self.shades = {}
+        self.doers = None
+        self.puts = None
 
     def deed_points(self):
         """The points of the deeds, ascending."""
@@ -68,20 +74,24 @@ class Bench:
         good = all_of([put.there(), same_cells(put.cell(), read.cell()), shade_ahead(put, read)])
         return some_of([none_of(good), self.overwritten(put, read)])
 
-    def overwritten(self, put, read):
-        """The saying that a further put at the cell of a read is behind a put and ahead of the read."""
-        numbers = read.cell()[1]
-        array = place_of(self.other.statements[read.point])[0]
-        found = []
+    def all_puts(self):
+        """All puts, as pairs (shade with bound names, what their loops and ifs say), by rests, arrays and numbers."""
+        found = {}
         for point in points_of(self.other, ("put",)):
-            if place_of(self.other.statements[point])[0] != array:
-                continue
             for choice, rows in point_cases(self.other, point):
                 late = bound_shade(self.other, point, choice)
-                if choice[2] == read.rests and late.cell()[1] == numbers:
-                    own = [said(renamed(row, "turn ")) for row in rows[spare_rows(self.other) + 4:]]
-                    order = [shade_ahead(put, late), shade_ahead(late, read)]
-                    found.append(bound(self.turns_bound(late), all_of(own + order)))
+                own = [said(renamed(row, "turn ")) for row in rows[spare_rows(self.other) + 4:]]
+                found.setdefault((choice[2],) + late.cell()[:2], []).append((late, own))
+        return found
+
+    def overwritten(self, put, read):
+        """The saying that a further put at the cell of a read is behind a put and ahead of the read."""
+        if self.puts is None:
+            self.puts = self.all_puts()
+        found = []
+        for late, own in self.puts.get((read.rests,) + read.cell()[:2], []):
+            order = [shade_ahead(put, late), shade_ahead(late, read)]
+            found.append(bound(self.turns_bound(late), all_of(own + order)))
         return some_of(found)
 
     def turns_bound(self, shade):
@@ -109,20 +119,28 @@ class Bench:
             parts.append(less_numbers(own, own_shade(self.other, first[0], first[1], " b").numbers_told()))
         return all_of(parts)
 
+    def all_doers(self):
+        """All deeds, as triples (names, what their cases say, image), by rests and what of their images is a number."""
+        found = {}
+        for deed in self.deed_points():
+            for choice, rows in point_cases(self.other, deed):
+                late = bound_shade(self.other, deed, choice)
+                image = image_shade(self.one, self.chart, late)
+                names = [name for name, _ in late.numbers_told()]
+                inner = [said(renamed(row, "")) for row in rows[spare_rows(self.other):]]
+                key = image.point, image.lane, image.shorts, choice[2]
+                found.setdefault(key, []).append((names, inner, image))
+        return found
+
     def undone(self, point, choice):
         """The saying that what a case of one tells is no image."""
+        if self.doers is None:
+            self.doers = self.all_doers()
         own = own_shade(self.one, point, choice, "")
         found = []
-        for deed in self.deed_points():
-            if self.chart[0][deed][0] != point:
-                continue
-            for other, rows in point_cases(self.other, deed):
-                late = bound_shade(self.other, deed, other)
-                image = image_shade(self.one, self.chart, late)
-                if other[2] == choice[2] and image.is_alike(own):
-                    inner = [said(renamed(row, "")) for row in rows[spare_rows(self.other):]]
-                    inner.append(same_terms(image.numbers_told(), own.numbers_told()))
-                    found.append(bound([name for name, _ in late.numbers_told()], all_of(inner)))
+        for names, inner, image in self.doers.get((point, choice[0], choice[1], choice[2]), []):
+            same = same_terms(image.numbers_told(), own.numbers_told())
+            found.append(bound(names, all_of(inner + [same])))
         return none_of(some_of(found))
 
     def mixed(self, point, choice):
