@@ -23,7 +23,7 @@ def stands_still(run):
 
 
 class Spot:
-    """Where a deed stands: its block and lane, its place in the lane's list, and how many meetings are ahead of it."""
+    """Where a deed stands: its block and lane, its rank among the lane's deeds, how many meetings are ahead of it."""
 
     def __init__(self, pair, rank, phase):
         self.pair = pair
@@ -32,7 +32,10 @@ class Spot:
 
 
 class Weft:
-    """All deeds of a kernel at sizes, by their spots, and the loose pairs; lanes has each lane's deeds, in order."""
+    """All deeds of a kernel at sizes, by their spots, and the loose pairs.
+
+    lanes has each lane's deeds, in order; firsts the first of these with so many meetings, or more, ahead of it.
+    """
 
     def __init__(self, kernel, sizes):
         check_at(kernel, sizes)
@@ -43,25 +46,29 @@ class Weft:
             raise StandsStill("the kernel is parted at these sizes")
         self.spots = {}
         self.lanes = {}
+        self.firsts = {}
         for pair in run.lists:
-            self.lanes[pair] = self.lane_deeds(run, pair)
+            self.note_lane(run, pair)
         self.loose = races_at(kernel, sizes)
         self.mates = {}
         for one, other in self.loose:
             self.mates.setdefault(one, []).append(other)
             self.mates.setdefault(other, []).append(one)
 
-    def lane_deeds(self, run, pair):
-        """Notes where the deeds of a lane stand; returns these."""
-        found = []
+    def note_lane(self, run, pair):
+        """Notes the deeds of a lane, and where they stand."""
+        deeds = []
+        firsts = []
         phase = 0
-        for rank, one in enumerate(run.lists[pair]):
-            if run.word_of(one) in DEEDS:
-                self.spots[one] = Spot(pair, rank, phase)
-                found.append(one)
-            else:
+        for one in run.lists[pair]:
+            if run.word_of(one) not in DEEDS:
                 phase = phase + 1
-        return found
+                continue
+            self.spots[one] = Spot(pair, len(deeds), phase)
+            deeds.append(one)
+            firsts.extend([one] * (phase + 1 - len(firsts)))
+        self.lanes[pair] = deeds
+        self.firsts[pair] = firsts
 
     def fresh_run(self):
         """A run that stands where no deed is done."""
@@ -78,13 +85,10 @@ class Weft:
     def held_next(self, deed):
         """Deeds that this one is held ahead of, from which all others of these are come to."""
         spot = self.spots[deed]
-        found = []
-        for pair in self.lanes:
+        found = self.lanes[spot.pair][spot.rank + 1:spot.rank + 2]
+        for pair in self.firsts:
             if pair[0] == spot.pair[0]:
-                for other in self.lanes[pair]:
-                    if self.is_ahead(deed, other):
-                        found.append(other)
-                        break
+                found = found + self.firsts[pair][spot.phase + 1:spot.phase + 2]
         return found
 
 
