@@ -6,6 +6,7 @@ import unittest
 import judging
 import pairing
 import planning
+from nestery import at, bare, nest_of, tiles, turn
 from pairing import CHART, COPIED, LONE, NOUGHT, STILL, TAIL, copied_kernel, laned_kernel, plain_kernel
 from samples import NO_KERNELS, NO_SIZES_AT, all_sizes_up_to, loop_kernel, shift_kernel
 from lanesmeet.errors import (
@@ -16,6 +17,8 @@ from lanesmeet.machine import Run, outcome_of
 from lanesmeet.maps import image
 from lanesmeet.meaning import cell_of
 from lanesmeet.needed import never_races
+from lanesmeet.making import cut, made
+from lanesmeet.plans import Plan
 from lanesmeet.papers import is_tree
 from lanesmeet.sayings import free_names, holds, is_saying
 from lanesmeet.stories import story, told
@@ -206,6 +209,27 @@ class Judge(unittest.TestCase):
         less = (("block", 0, -1), ("plus", ("rest", "n"), ("is", 1)))
         chart = ({0: (2,) + tail[:2] + ((less, tail[2][1]),), 2: (4,) + tail}, {})
         self.assertEqual(judge(ONE, OTHER, chart), ("strange", {"n": (1, 0)}, (0, (0, 0), (0, 0), ())))
+
+    def test_adds_for_puts_are_strange(self):
+        add = Kernel(2, (1, 2), OTHER.blocks, OTHER.sizes, (), OTHER.arrays, OTHER.body[:2] + (("add",) + OTHER.body[2][1:],))
+        self.assertEqual(judge(ONE, add, CHART), ("strange", {"n": (1, 0)}, (2, (0, 0), (0, 0), ())))
+        own = (((("block", 0, 0), NOUGHT), STILL), (NOUGHT, ("lane", 1)), ())
+        same = ({0: (0,) + own, 2: (2,) + own}, {})
+        self.assertEqual(judge(add, add, same), ("alike",))
+        self.assertEqual(judge(add, OTHER, same)[0], "strange")
+
+    def test_the_order_of_the_maps_keys_has_no_meaning(self):
+        backwards = ({5: COPIED[0][5], 3: COPIED[0][3]}, COPIED[1])
+        self.assertEqual(judge_sayings(ONE, COPY, backwards), judge_sayings(ONE, COPY, COPIED))
+        self.assertEqual(judge_papers(ONE, COPY, backwards), judge_papers(ONE, COPY, COPIED))
+        nest = nest_of("n", (("a", "n"), ("b", "n")), (("long", "i", bare(1), tiles("n"), (
+            ("take", "x", at("a", turn("i", -1))), ("take", "y", at("a", turn("i"))), ("let", "z", "f", ("x", "y")),
+            ("put", at("b", turn("i")), "z"))),))
+        kernel, (deeds, sources) = made(nest, Plan(2, (1, 2), (LONE, ("tiles", "n", 1)), {0: ("block", 1)}, (), (("a", None),)))
+        backwards = ({key: deeds[key] for key in reversed(deeds)}, {key: sources[key] for key in reversed(sources)})
+        found = judge_sayings(cut(nest, 2), kernel, backwards)
+        self.assertEqual(found, judge_sayings(cut(nest, 2), kernel, (deeds, sources)))
+        self.assertEqual([key[0] for key, _ in found["unfetched"]], sorted(key[0] for key, _ in found["unfetched"]))
 
     def test_undone_by_one_lane(self):
         only = Kernel(2, (1, 2), OTHER.blocks, OTHER.sizes, (), OTHER.arrays, (

@@ -185,6 +185,32 @@ class Traces(unittest.TestCase):
         self.assertIs(is_ring_of(kernel, {}, ways, (takes[0], puts[0], puts[1], takes[1])), False)
         self.assertEqual(outcomes(kernel, {}), sorted(outcomes(kernel, {})))
 
+    def test_rings_through_meetings(self):
+        """Two blocks: in each lane 0 puts, all meet, lane 1 takes what the other block has put."""
+        def place(number):
+            return ("a", ((("none", None, 0), ("is", number)),))
+
+        def only(lane, *block):
+            return ("if", ("small", LANE, "same", ("is", lane)), block, ())
+
+        first = ("order", (("block", 0, 0), ("is", 0)), (("none", None, 0), ("is", 0)))
+        body = (("let", "w", "f", ()), only(0, ("if", first, (("put", place(0), "w"),), (("put", place(1), "w"),))), ("meet",),
+                only(1, ("if", first, (("take", "x", place(1)),), (("take", "x", place(0)),))))
+        kernel = Kernel(2, (1, 2), (("none", None, 2), LONE), (("n", (0,)),), (), (("far", "a", ("n",)),), body)
+        puts = [(3 + block, (block, 0), (0, 0), ()) for block in (0, 1)]
+        takes = [(8 + block, (block, 0), (0, 1), ()) for block in (0, 1)]
+        self.assertEqual(races_at(kernel, AT), sorted([(puts[0], takes[1]), (puts[1], takes[0])]))
+        self.assertIs(is_held(kernel, AT, puts[0], takes[0]), True)
+        self.assertEqual(many_outcomes(kernel, AT), 3)
+        ways = ((takes[0], puts[1]), (takes[1], puts[0]))
+        self.assertIsNone(order_of(kernel, AT, ways))
+        ring = ring_of(kernel, AT, ways)
+        self.assertEqual(sorted(ring), sorted(puts + takes))
+        self.assertIs(is_ring_of(kernel, AT, ways, ring), True)
+        for one in ((takes[0], puts[1]), (puts[1], takes[0])):
+            self.assertIsNone(ring_of(kernel, AT, (one,)))
+            self.assertEqual(len(order_of(kernel, AT, (one,))), 4)
+
     def test_one_outcome(self):
         kernel = shift_kernel()
         self.assertEqual((many_outcomes(kernel, AT), outcomes(kernel, AT)), (1, [()]))

@@ -40,17 +40,20 @@ def by_blocks(more, copies):
 
 def made_rows(r):
     """A nest of loops side by side, perhaps within another one, and a plan that gives lanes to them."""
-    def loop(name):
-        where = at(r.choice("ab"), turn(name, r.choice((0, 0, 1, -1))))
-        block = (("take", "x", where), ("put", at(r.choice("ab"), turn(name)), "x"))
-        if r.random() < 0.3:
+    turns = r.random() < 0.7
+
+    def loop(at_, name):
+        # By turns each loop mostly takes what the one ahead of it has put.
+        arrays = ("ab"[at_ % 2], "ab"[(at_ + 1) % 2]) if turns else (r.choice("ab"), r.choice("ab"))
+        block = (("take", "x", at(arrays[0], turn(name, r.choice((0, 0, 1, -1))))), ("put", at(arrays[1], turn(name)), "x"))
+        if r.random() < 0.2:
             block = block + (LET, (r.choice(("put", "add")), at(r.choice("ab"), turn(name, r.choice((0, 1)))), "x"))
         return ("long", name, bare(1), tiles("n", -1), block)
 
-    body = tuple(loop(name) for name in "ij"[:r.choice((1, 2, 2))])
+    body = tuple(loop(at_, name) for at_, name in enumerate("ijk"[:r.choice((1, 2, 2, 3))]))
     outer = r.random() < 0.3
     if outer:
-        body = (("long", "t", bare(0), bare(2), body),)
+        body = (("long", "t", bare(0), bare(r.choice((2, 3))), body),)
     nest = nest_of("n", (("a", "n"), ("b", "n")), body)
     roles = {point: ("lane", 1) for point, statement in enumerate(nest.statements) if statement[0] == "long"}
     if outer:
@@ -272,7 +275,7 @@ class Wrongs(unittest.TestCase):
 
     def test_fewest_gaps_gone_through(self):
         wanted = 0
-        for seed in range(60):
+        for seed in range(40):
             r = random.Random(seed)
             nest, plan = made_rows(r)
             gaps = all_gaps(nest)
@@ -300,7 +303,7 @@ class Wrongs(unittest.TestCase):
     def test_lots_and_trees(self):
         """The gaps and the tree against lots that are gone through: which meeting alone would part a race."""
         trees = 0
-        for seed in range(100, 160):
+        for seed in range(100, 130):
             nest, plan = made_rows(random.Random(seed))
             gaps = all_gaps(nest)
             try:
@@ -316,7 +319,7 @@ class Wrongs(unittest.TestCase):
             self.assertEqual(found.gaps, tuple(gaps[hit] for hit in hits))
             self.assertTrue(is_hit_tree(len(gaps), least, len(hits) - 1, tree))
             trees += 1
-        self.assertGreater(trees, 3)
+        self.assertGreater(trees, 7)
 
     def lots_at_small_sizes(self, nest, plan, gaps):
         """The lots of all races at small sizes, of the kernel without gaps."""
