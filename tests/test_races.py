@@ -277,6 +277,33 @@ class Regions(unittest.TestCase):
                 self.assertEqual(first[1:], races_at(kernel, first[0])[0])
         self.assertGreater(min(told), 300)
 
+    def test_meetings_that_hang_on_rests_lanes_and_turns(self):
+        """Races that some meeting parts, where guards around meetings ask for rests, lanes, tiles and turns."""
+        lane, rest, turn = ("lane", 1), ("rest", "n"), ("turn", "k")
+        guards = [("small", one, "same", ("is", number)) for one in (lane, rest, turn) for number in (0, 1)]
+        guards.append(("order", (("turn", "t", 0), rest), (("none", None, 1), lane)))
+        guards.append(("not", ("order", (("turn", "t", 0), turn), (("none", None, 1), ("is", 0)))))
+        put = ("put", ("s", (("is", 0),)), "w")
+        take = ("take", "x", ("s", (("is", 0),)))
+
+        def only(number, statement):
+            return ("if", ("small", lane, "same", ("is", number)), (statement,), ())
+
+        counts = {}
+        for guard in guards:
+            for other in guards[:4]:
+                meets = (("if", guard, (("meet",),), ()), ("if", other, (), (("meet",),)))
+                for first, second in ((only(0, put), only(1, take)), (only(1, put), only(0, take))):
+                    block = (("short", "k", 2, (first,) + meets[:1] + (second,) + meets[1:]),)
+                    kernel = Kernel(2, (1, 2), (samples.ONE, samples.ONE), (("n", (0, 1)),), (), (("shared", "s", (1,)),), (
+                        ("let", "w", "f", ()), ("long", "t", ("none", None, 0), ("tiles", "n", 0), block)))
+                    region = race_region(kernel)
+                    for sizes in samples.all_sizes_up_to(kernel, 3):
+                        raced = bool(races_at(kernel, sizes))
+                        counts[raced] = counts.get(raced, 0) + 1
+                        self.assertEqual(sizes in region, raced, (guard, other, sizes))
+        self.assertGreater(min(counts.values()), 50)
+
     def test_a_race_or_papers_never_both(self):
         counts = [0, 0]
         for seed in range(500):
