@@ -93,16 +93,16 @@ class Weft:
 
 
 class Order:
-    """Which of the deeds of some loose pairs must be done ahead of which: numbers for them, and masks of these.
+    """Which of the deeds of some loose pairs must be done ahead of which: numbers for them, and dicts of these.
 
-    reach has for each number the mask of all that must be done behind it.
+    reach has for each number a dict from all that must be done behind it to True.
     """
 
     def __init__(self, weft, pairs):
         self.deeds = sorted(set([deed for pair in pairs for deed in pair]))
         self.numbers = {deed: at for at, deed in enumerate(self.deeds)}
         self.pairs = [(self.numbers[one], self.numbers[other]) for one, other in pairs]
-        self.reach = [mask_of([at for at, other in enumerate(self.deeds) if weft.is_ahead(deed, other)])
+        self.reach = [{at: True for at, other in enumerate(self.deeds) if weft.is_ahead(deed, other)}
                       for deed in self.deeds]
 
     def told_ways(self, ways):
@@ -110,16 +110,16 @@ class Order:
         return tuple(sorted([(self.deeds[one], self.deeds[other]) for one, other in ways]))
 
     def settlements(self):
-        """Pairs (ways, masks), one for each way in which all pairs can be settled; TooMany for more than 1000."""
+        """Pairs (ways, reach), one for each way in which all pairs can be settled; TooMany for more than 1000."""
         waiting = [(0, self.reach, [])]
         found = []
         while waiting:
             start, reach, ways = waiting.pop()
             for at in range(start, len(self.pairs)):
                 one, other = self.pairs[at]
-                if reach[other] >> one & 1:
+                if one in reach[other]:
                     one, other = other, one
-                elif not reach[one] >> other & 1:
+                elif other not in reach[one]:
                     # Whatever is settled so far without a ring can be settled to the end, so each of these counts.
                     waiting.append((at + 1, linked(reach, other, one), ways + [(other, one)]))
                     if len(found) + len(waiting) >= MOST_OUTCOMES:
@@ -131,30 +131,28 @@ class Order:
 
     def written(self, ways, reach):
         """Those of the ways that no row of further deeds tells."""
-        into = [0] * len(reach)
-        for one, mask in enumerate(reach):
-            for other in range(len(reach)):
-                if mask >> other & 1:
-                    into[other] = into[other] | 1 << one
-        return self.told_ways([(one, other) for one, other in ways if not reach[one] & into[other]])
+        return self.told_ways([(one, other) for one, other in ways
+                               if not any([other in reach[between] for between in reach[one]])])
 
     def with_ways(self, ways):
-        """The masks that come of ways, pairs of deeds."""
+        """The reach that comes of ways, pairs of deeds."""
         reach = self.reach
         for one, other in ways:
             reach = linked(reach, self.numbers[one], self.numbers[other])
         return reach
 
 
-def mask_of(numbers):
-    """The mask of some numbers."""
-    mask = 0
-    for number in numbers:
-        mask = mask | 1 << number
-    return mask
-
-
 def linked(reach, one, other):
-    """The masks if one must be done ahead of the other, too."""
-    more = reach[other] | 1 << other
-    return [mask | more if at == one or mask >> one & 1 else mask for at, mask in enumerate(reach)]
+    """The reach if one must be done ahead of the other, too; what stays as it is is shared with the old one."""
+    if other in reach[one]:
+        return reach
+    more = list(reach[other]) + [other]
+    return [with_numbers(own, more) if at == one or one in own else own for at, own in enumerate(reach)]
+
+
+def with_numbers(known, more):
+    """A dict from the keys of another one and more numbers to True."""
+    found = {number: True for number in known}
+    for number in more:
+        found[number] = True
+    return found
