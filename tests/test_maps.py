@@ -314,6 +314,56 @@ class Joined(unittest.TestCase):
                 self.assertTrue(words[:2] != ["alike", "alike"] or words[2] == "alike", words)
         self.assertGreater(many, 50)
 
+    def test_gone_through_with_wider_tiles(self):
+        """As above, where turns are cut into tiles and offsets, and shifted by more than a tile."""
+        many = 0
+        alike = 0
+        for seed in range(60):
+            r = random.Random(seed)
+            nest = nestery.made_nest(seed, loops=2, pieces=2)
+            loops = [point for point, statement in enumerate(nest.statements) if statement[0] == "long"]
+            if not loops:
+                continue
+            later, chart = changed(nest, ("shift", r.choice(loops), r.choice((-3, -1, 1, 2, 5))))
+            plan = planning.fitting_plan(later, r, (2, 3))
+            if plan is None or plan.copies:
+                continue
+            one, two = cut(nest, plan.width), cut(later, plan.width)
+            three, second = made(later, plan)
+            first = self.cut_chart(one, two, later, chart, plan.width)
+            self.assertIs(is_map(one, two, first), True)
+            joined = joined_map(one, two, three, first, second)
+            self.assertIs(is_map(one, three, joined), True)
+            for sizes in all_sizes_up_to(three, 1):
+                for deed in all_instances(three, sizes):
+                    if deed[0] in joined[0]:
+                        own = image(two, three, second, sizes, deed)
+                        found = image(one, three, joined, sizes, deed)
+                        if own in list(all_instances(two, sizes)):
+                            many += 1
+                            self.assertEqual(found, image(one, two, first, sizes, own))
+                            self.assertIn(found, list(all_instances(one, sizes)))
+            if len(three.statements) < 12 and all(never_races(kernel) for kernel in (one, two, three)):
+                self.assertEqual(judge(one, two, first), ("alike",))
+                words = judge(two, three, second)[0], judge(one, three, joined)[0]
+                self.assertEqual(words[0] == "alike", words[1] == "alike")
+                alike += words[0] == "alike"
+        self.assertGreater(many, 100)
+        self.assertGreater(alike, 5)
+
+    def cut_chart(self, one, two, later, chart, width):
+        """The map of two cuts that comes of a map of two nests whose statements have the same order."""
+        points = [[point for point, statement in enumerate(kernel.statements) if statement[0] in ("take", "put", "add")]
+                  for kernel in (one, two, later)]
+        deeds = {}
+        for own, new, point in zip(*points):
+            turns = ()
+            for (_, name, more), _ in chart[0][point][3]:
+                small = ("plus", ("turn", name + "s"), ("is", more))
+                turns = turns + ((("turn", name, 0), small), ("rest of", small, width))
+            deeds[new] = (own, (STILL, STILL), (NOUGHT, NOUGHT), turns)
+        return deeds, {}
+
     def between(self, nest, middle, later, chart):
         """The map of a nest and the cut of what came of it: statements of both have the same order."""
         deeds = {}
